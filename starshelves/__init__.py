@@ -1,0 +1,1 @@
+"""Starshelves: shelves that mend, hide who asks, and answer by one star."""

@@ -1,0 +1,209 @@
+"""What several test files share: examples, odd values, and answers by going through all words."""
+
+import ast
+import copy
+import importlib
+import inspect
+import itertools
+import random
+
+PRIMES = (2, 3, 5, 7, 11, 13)
+KEEP = (5, 4, ((1, 0, 4, 3), (0, 1, 2, 3)))
+HIDE = (5, 4, ((1, 1, 1, 1),))
+HALL = (KEEP, HIDE)
+STOCK = (((1, 2, 3, 4),), ((2, 2, 2, 2),))
+PAIRS = (5, 4, ((1, 1, 0, 0), (0, 0, 1, 2)))
+TURNED = (5, 4, ((1, 0, 1, 0), (0, 1, 0, 1)))
+
+DEEP = ()
+for _ in range(29):
+    DEEP = (DEEP, True)
+
+# Values of which none is a prime, a size, a word of two digits or more, a lot with a place, a book.
+ODD = (
+    None, True, False, -1, -(10 ** 59), "", "1", "book 2 1", "0 1", [], [0], [1, 1], [(1, 1)], ["x", []],
+    (None,), (True, 1), (1, False), ("1", "0"), ([1], 1), ((1,), (0,)), ((), ()), (-1, 0), (1, 10 ** 59),
+    (2, 2), ((1, 1), (1, 1)), DEEP, [DEEP], (2, True, ()), (True, 1, ()), [2, 1, ()],
+)
+
+
+def fields_of(error):
+    """The fields of an error, by name."""
+    return dict(vars(error))
+
+
+def raised(call, *given, **named):
+    """The name and the fields of the error that a call raises."""
+    try:
+        result = call(*given, **named)
+    except ValueError as error:
+        return error.__class__.__name__, fields_of(error)
+    return "no error but", result
+
+
+def not_usable(name):
+    """What raised gives for a parameter that is refused."""
+    return "NotUsable", {"word": name, "at": -1}
+
+
+def invalid(word, at=-1):
+    """What raised gives for a paper that is refused."""
+    return "InvalidPaper", {"word": word, "at": at}
+
+
+def shown(value):
+    """A value as text, in which True is not 1 and a list is no tuple."""
+    return repr(value)
+
+
+def names_of(call):
+    """The names of the parameters of a function."""
+    return list(inspect.signature(call).parameters)
+
+
+def all_words(prime, size):
+    """All words, ascending."""
+    return list(itertools.product(range(prime), repeat=size))
+
+
+def lots_below(size):
+    """All lots, those of fewer places ahead."""
+    return [lot for many in range(size + 1) for lot in itertools.combinations(range(size), many)]
+
+
+def dot(prime, one, other):
+    """The sum of products."""
+    return sum(left * right for left, right in zip(one, other)) % prime
+
+
+def sums_by_hand(prime, size, words):
+    """The set of all sums of multiples of words, found one after the other."""
+    found = {(0,) * size}
+    for word in words:
+        if word not in found:
+            found = {
+                tuple((left + digit * right) % prime for left, right in zip(one, word))
+                for one in found for digit in range(prime)
+            }
+    return found
+
+
+def words_by_hand(book):
+    """The set of all words of a book."""
+    return sums_by_hand(*book)
+
+
+def rank_by_hand(prime, words):
+    """The exponent of the prime in the number of words."""
+    rank = 0
+    while prime ** rank < len(words):
+        rank += 1
+    return rank
+
+
+def cut_by_hand(words, lot):
+    """The set of these words cut to a lot."""
+    return {tuple(word[place] for place in lot) for word in words}
+
+
+def all_books(prime, size):
+    """All books of a prime and a size, by all settled rows."""
+    found = []
+    for leads in lots_below(size):
+        frees = [(k, place) for k, lead in enumerate(leads) for place in range(lead + 1, size) if place not in leads]
+        for digits in itertools.product(range(prime), repeat=len(frees)):
+            rows = [[1 if place == lead else 0 for place in range(size)] for lead in leads]
+            for (k, place), digit in zip(frees, digits):
+                rows[k][place] = digit
+            found.append((prime, size, tuple(tuple(row) for row in rows)))
+    return found
+
+
+def some_book(chance, prime, size, rank=None, noughts=0):
+    """A book by chance, of a rank as near as can be, with so many places that are 0 in all words."""
+    rank = chance.randint(0, size) if rank is None else rank
+    leads = sorted(chance.sample(range(size), rank))
+    dead = [place for place in range(size) if place not in leads][:noughts]
+    rows = []
+    for lead in leads:
+        row = [0] * size
+        row[lead] = 1
+        for place in range(lead + 1, size):
+            if place not in leads and place not in dead:
+                row[place] = chance.randrange(prime)
+        rows.append(tuple(row))
+    return (prime, size, tuple(rows))
+
+
+def some_word(chance, prime, size):
+    """A word by chance."""
+    return tuple(chance.randrange(prime) for _ in range(size))
+
+
+def some_lot(chance, size):
+    """A lot by chance."""
+    return tuple(place for place in range(size) if chance.random() < 0.5)
+
+
+def chance_of(seed):
+    """A source of chances that are the same each time."""
+    return random.Random(seed)
+
+
+def run_examples(case, text):
+    """Run the document's examples: what each gives, shown, has to be the line below it."""
+    names = {}
+    lines = [line.strip() for line in text.strip().split("\n") if line.strip()]
+    for at, line in enumerate(lines):
+        if not line.startswith(">>> "):
+            continue
+        code = line[4:]
+        told = lines[at + 1] if at + 1 < len(lines) and not lines[at + 1].startswith(">>> ") else None
+        with case.subTest(code=code):
+            if told is None:
+                exec(code, names)
+            elif told.startswith("raises "):
+                word, fields = raised(eval, code, names)
+                written = ", ".join(f"{name}={value!r}" for name, value in fields.items())
+                case.assertEqual(f"{word}({written})", told[len("raises "):])
+            else:
+                case.assertEqual(repr(eval(code, names)), told)
+
+
+def defined_names(module):
+    """The functions and classes that a module's file itself defines."""
+    tree = ast.parse(inspect.getsource(module))
+    return [node.name for node in tree.body if isinstance(node, (ast.FunctionDef, ast.ClassDef))]
+
+
+def check_call(case, module, name, given):
+    """A function or class is defined in its file, and takes its parameters by place and by name, as often as wanted."""
+    home = importlib.import_module(f"starshelves.{module}")
+    case.assertIn(name, defined_names(home))
+    call = getattr(home, name)
+    told = [item.name for item in inspect.signature(call).parameters.values() if item.kind == item.POSITIONAL_OR_KEYWORD]
+    case.assertEqual(told, list(given))
+    before = copy.deepcopy(given)
+    result = call(*given.values())
+    case.assertEqual(given, before)
+    for other in (call(**given), call(**dict(reversed(given.items()))), call(*given.values())):
+        case.assertEqual(other, result)
+        case.assertIs(other.__class__, result.__class__)
+
+
+def parameters_of(call):
+    """The names of the parameters behind the object's own, those of any number with their star."""
+    parameters = [item for item in inspect.signature(call).parameters.values() if item.name not in ("self", "cls")]
+    return ["*" + item.name if item.kind == item.VAR_POSITIONAL else item.name for item in parameters]
+
+
+def check_methods(case, module, name, made_of, told):
+    """A class has its methods in its own body; those told as None are properties."""
+    kind = getattr(importlib.import_module(f"starshelves.{module}"), name)
+    case.assertEqual(parameters_of(kind), made_of)
+    for method, parameters in told.items():
+        case.assertIn(method, vars(kind))
+        if parameters is None:
+            case.assertIsInstance(vars(kind)[method], property)
+        else:
+            case.assertEqual(parameters_of(getattr(kind, method)), parameters, method)
