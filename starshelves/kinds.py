@@ -3,6 +3,7 @@
 from starshelves.rows import are_settled, lead_of, reduced
 
 PRIMES = (2, 3, 5, 7, 11, 13)
+MOST_OTHERS = 8
 
 
 def is_integer(thing):
@@ -76,3 +77,15 @@ def is_word_in(book, thing):
     """Whether any value is a word of the book."""
     prime, size, rows = book
     return is_word(prime, size, thing) and lead_of(reduced(prime, rows, thing)) is None
+
+
+def are_others(size, thing):
+    """Whether any value is a tuple of at most eight books of the size."""
+    if not isinstance(thing, tuple) or len(thing) > MOST_OTHERS:
+        return False
+    return all([is_book(book) and book[1] == size for book in thing])
+
+
+def are_prices(size, thing):
+    """Whether any value is a tuple with a number for each place."""
+    return is_tuple_of(size, thing) and all([is_number(price) for price in thing])

@@ -26,3 +26,8 @@ def lacking_one(lot):
 def rest_in(lot, place):
     """The lot without the place."""
     return tuple([other for other in lot if other != place])
+
+
+def price_of(prices, lot):
+    """The sum of the prices of the lot's places."""
+    return sum([prices[place] for place in lot])

@@ -39,3 +39,12 @@ def rings_in(book):
         if lot not in free and all([part in free for part in lacking_one(lot)]):
             rings.append(lot)
     return tuple(sorted(rings))
+
+
+def least_cut(one, others):
+    """A lot for which the rank of one on its rest and those of all others on it come to the least sum."""
+    # The ranks on the rests are those on the lots, turned round: see all_lots.
+    sums = ranks_of(one)[::-1]
+    for other in others:
+        sums = [total + rank for total, rank in zip(sums, ranks_of(other))]
+    return all_lots(one[1])[sums.index(min(sums))]

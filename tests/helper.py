@@ -176,19 +176,21 @@ def defined_names(module):
     return [node.name for node in tree.body if isinstance(node, (ast.FunctionDef, ast.ClassDef))]
 
 
-def check_call(case, module, name, given):
-    """A function or class is defined in its file, and takes its parameters by place and by name, as often as wanted."""
-    home = importlib.import_module(f"starshelves.{module}")
-    case.assertIn(name, defined_names(home))
-    call = getattr(home, name)
-    told = [item.name for item in inspect.signature(call).parameters.values() if item.kind == item.POSITIONAL_OR_KEYWORD]
-    case.assertEqual(told, list(given))
-    before = copy.deepcopy(given)
-    result = call(*given.values())
-    case.assertEqual(given, before)
-    for other in (call(**given), call(**dict(reversed(given.items()))), call(*given.values())):
-        case.assertEqual(other, result)
-        case.assertIs(other.__class__, result.__class__)
+def check_calls(case, calls):
+    """Functions and classes are defined in their file, and take their parameters by place and by name, again and again."""
+    for module, name, given in calls:
+        with case.subTest(module=module, name=name):
+            home = importlib.import_module(f"starshelves.{module}")
+            case.assertIn(name, defined_names(home))
+            call = getattr(home, name)
+            named = [item.name for item in inspect.signature(call).parameters.values() if item.kind != item.VAR_POSITIONAL]
+            case.assertEqual(named, list(given))
+            before = copy.deepcopy(given)
+            result = call(*given.values())
+            for other in (call(**given), call(**dict(reversed(given.items()))), call(*given.values())):
+                case.assertEqual(other, result)
+                case.assertIs(other.__class__, result.__class__)
+            case.assertEqual(given, before)
 
 
 def parameters_of(call):
@@ -197,13 +199,60 @@ def parameters_of(call):
     return ["*" + item.name if item.kind == item.VAR_POSITIONAL else item.name for item in parameters]
 
 
-def check_methods(case, module, name, made_of, told):
-    """A class has its methods in its own body; those told as None are properties."""
-    kind = getattr(importlib.import_module(f"starshelves.{module}"), name)
-    case.assertEqual(parameters_of(kind), made_of)
-    for method, parameters in told.items():
-        case.assertIn(method, vars(kind))
-        if parameters is None:
-            case.assertIsInstance(vars(kind)[method], property)
-        else:
-            case.assertEqual(parameters_of(getattr(kind, method)), parameters, method)
+def check_methods(case, classes):
+    """Classes have their methods in their own body; those told as None are properties."""
+    for module, name, made_of, told in classes:
+        kind = getattr(importlib.import_module(f"starshelves.{module}"), name)
+        case.assertEqual(parameters_of(kind), made_of)
+        for method, parameters in told.items():
+            with case.subTest(name=name, method=method):
+                case.assertIn(method, vars(kind))
+                if parameters is None:
+                    case.assertIsInstance(vars(kind)[method], property)
+                else:
+                    case.assertEqual(parameters_of(getattr(kind, method)), parameters)
+
+
+def rest_of(size, lot):
+    """All places that are not in the lot."""
+    return tuple(place for place in range(size) if place not in lot)
+
+
+def deals_by_hand(one, others):
+    """The most places that can be dealt out to free lots of others, together free in one, by all ways to deal."""
+    most = 0
+    for deal in itertools.product(range(-1, len(others)), repeat=one[1]):
+        lots = [tuple(place for place in range(one[1]) if deal[place] == k) for k in range(len(others))]
+        together = tuple(place for place in range(one[1]) if deal[place] >= 0)
+        if len(together) > most and all(is_free_by_hand(book, lot) for book, lot in [(one, together), *zip(others, lots)]):
+            most = len(together)
+    return most
+
+
+def is_free_by_hand(book, lot):
+    """Whether the book cut to the lot has all words, found by adding row after row."""
+    rows = [tuple(row[place] for place in lot) for row in book[2]]
+    return len(sums_by_hand(book[0], len(lot), rows)) == book[0] ** len(lot)
+
+
+def some_halls(seed, many=3):
+    """Halls of up to eight shelves and five rows a book, over all six primes, with a source of chances."""
+    chance = chance_of(seed)
+    for prime in PRIMES:
+        for _ in range(many):
+            size = chance.randint(1, 8)
+            keep = some_book(chance, prime, size, chance.randint(1, min(size, 5)), chance.randint(0, 1))
+            yield (keep, some_book(chance, prime, size, chance.randint(0, min(size, 5)))), chance
+
+
+def some_stock(chance, hall):
+    """A stock of up to four files of up to three rows each."""
+    prime, size, rows = hall[0]
+    stock = []
+    for _ in range(chance.randint(1, 4)):
+        file = []
+        for _ in range(chance.randint(1, 3)):
+            digits = [chance.randrange(prime) for _ in rows]
+            file.append(tuple(sum(d * row[k] for d, row in zip(digits, rows)) % prime for k in range(size)))
+        stock.append(tuple(file))
+    return tuple(stock)

@@ -7,6 +7,7 @@ from starshelves.books import (
     checks_of, cut_of, has_word, is_part, meet_of, rank_of, span_of, star_of, sum_of, within_of, words_of,
 )
 from starshelves.kinds import is_book
+from starshelves.words import sum_of_products
 from tests.helper import (
     HIDE, KEEP, PRIMES, all_books, all_words, chance_of, cut_by_hand, dot, lots_below, not_usable, raised, shown,
     some_book, some_lot, some_word, sums_by_hand, words_by_hand,
@@ -155,7 +156,9 @@ class GreatBooks(unittest.TestCase):
 
     def test_the_checks_that_the_document_names(self):
         self.assertEqual(star_of(KEEP, HIDE), KEEP)
-        self.assertEqual(checks_of(star_of(KEEP, HIDE)), (5, 4, ((1, 0, 2, 2), (0, 1, 3, 1))))
+        checks = checks_of(star_of(KEEP, HIDE))
+        self.assertEqual(checks, (5, 4, ((1, 0, 2, 2), (0, 1, 3, 1))))
+        self.assertEqual([sum_of_products(5, check, (3, 1, 2, 0)) for check in checks[2]], [2, 2])
 
 
 class Refused(unittest.TestCase):

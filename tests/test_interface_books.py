@@ -2,7 +2,7 @@
 
 import unittest
 
-from tests.helper import HIDE, KEEP, PAIRS, check_call, check_methods
+from tests.helper import HIDE, KEEP, PAIRS, check_calls, check_methods
 
 CALLS = [
     ("kinds", "is_integer", {"thing": 1}),
@@ -60,14 +60,10 @@ METHODS = [
 
 class Interface(unittest.TestCase):
     def test_functions_and_classes(self):
-        for module, name, given in CALLS:
-            with self.subTest(module=module, name=name):
-                check_call(self, module, name, given)
+        check_calls(self, CALLS)
 
     def test_methods_and_properties(self):
-        for module, name, made_of, told in METHODS:
-            with self.subTest(module=module, name=name):
-                check_methods(self, module, name, made_of, told)
+        check_methods(self, METHODS)
 
 
 if __name__ == "__main__":
