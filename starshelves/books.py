@@ -22,8 +22,7 @@ def checks_of(book):
     for place in range(size):
         if place not in leads:
             # What the place brings is taken off where the rows begin, row by row.
-            word = [0] * size
-            word[place] = 1
+            word = list(unit_word(size, place))
             for lead, row in zip(leads, rows):
                 word[lead] = -row[place] % prime
             words.append(tuple(word))

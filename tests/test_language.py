@@ -35,6 +35,9 @@ STATEMENTS = (
     ast.Assert, ast.Expr, ast.Pass, ast.Break, ast.Continue, ast.ImportFrom, ast.Delete, ast.Try, ast.With,
 )
 FUNCTIONS = (ast.FunctionDef, ast.Lambda)
+NEW = (ast.List, ast.Dict, ast.ListComp, ast.DictComp)
+MAKERS = ("list", "dict", "sorted")
+CHANGERS = "append clear extend insert pop remove reverse setdefault sort update".split()
 
 
 def nodes(kind):
@@ -58,6 +61,20 @@ def top_names(tree):
     """The names that a file defines."""
     own = [node.name for node in tree.body if isinstance(node, (ast.FunctionDef, ast.ClassDef))]
     return own + [node.targets[0].id for node in tree.body if isinstance(node, ast.Assign)]
+
+
+def is_plainly_new(value):
+    """Whether a value is plainly a new list or dict; [0] * size is none, since a class has a sign *."""
+    return isinstance(value, NEW) or (isinstance(value, ast.Call) and getattr(value.func, "id", "") in MAKERS)
+
+
+def changed_names(function):
+    """The local names of which a function assigns items, or calls what changes a list or a dict."""
+    for node in ast.walk(function):
+        if isinstance(node, ast.Subscript) and not isinstance(node.ctx, ast.Load):
+            yield node.value
+        if isinstance(node, ast.Call) and isinstance(node.func, ast.Attribute) and node.func.attr in CHANGERS:
+            yield node.func.value
 
 
 class Files(unittest.TestCase):
@@ -142,6 +159,35 @@ class Statements(unittest.TestCase):
         for name, node in nodes(ast.BinOp):
             if isinstance(node.op, ast.Pow):
                 self.assertIsInstance(node.right, ast.Constant, (name, node.lineno))
+
+
+class Changes(unittest.TestCase):
+    """What signs, properties and their kin reach changes nothing (L5 Operators, L28); here no function does."""
+
+    def test_only_lists_and_dicts_that_a_function_plainly_made_are_changed(self):
+        for name, function in nodes(ast.FunctionDef):
+            made = {}
+            for node in ast.walk(function):
+                for target in node.targets if isinstance(node, ast.Assign) else ():
+                    for bound in ast.walk(target):
+                        if isinstance(bound, ast.Name) and isinstance(bound.ctx, ast.Store):
+                            made.setdefault(bound.id, []).append(node.value if bound == target else None)
+            for changed in changed_names(function):
+                self.assertIsInstance(changed, ast.Name, (name, function.name))
+                values = made.get(changed.id, [None])
+                self.assertTrue(all(is_plainly_new(value) for value in values), (name, function.name, changed.id))
+
+    def test_attributes_are_assigned_by_init_alone(self):
+        for name, function in nodes(ast.FunctionDef):
+            if function.name != "__init__":
+                for node in ast.walk(function):
+                    self.assertFalse(isinstance(node, ast.Attribute) and not isinstance(node.ctx, ast.Load), (name, function.name))
+
+    def test_sums_in_place_are_of_literal_integers(self):
+        for name, node in nodes(ast.AugAssign):
+            self.assertIsInstance(node.target, ast.Name, (name, node.lineno))
+            self.assertIsInstance(node.op, ast.Add, (name, node.lineno))
+            self.assertIsInstance(getattr(node.value, "value", None), int, (name, node.lineno))
 
 
 class Names(unittest.TestCase):
