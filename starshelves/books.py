@@ -2,7 +2,8 @@
 
 from starshelves.demands import demand
 from starshelves.kinds import is_lot, is_prime, is_size, is_word, is_word_in
-from starshelves.rows import lead_of, less_times, picked, settled, unit_word
+from starshelves.lots import rest_of
+from starshelves.rows import lead_of, less_times, picked, rows_off, settled, unit_word
 from starshelves.words import product_of
 
 
@@ -87,9 +88,9 @@ def lot_book(prime, size, lot):
 
 def within_of(book, lot):
     """The book of its words that lie within the lot."""
-    prime, size, _ = book
+    prime, size, rows = book
     demand(is_lot(size, lot), "lot")
-    return meet_of(book, lot_book(prime, size, lot))
+    return (prime, size, rows_off(prime, rows, rest_of(size, lot)))
 
 
 def cut_of(book, lot):

@@ -33,15 +33,19 @@ def distance_of(hall):
     return min([len(lot) for lot in least_losses(hall)])
 
 
-def mended(hall, held):
-    """The stock by what some shelves hold; Lost if it hangs on the others, Torn(()) without one."""
-    demand(is_some_held(hall, held), "held")
-    keep = hall[0]
-    lot = tuple([shelf for shelf, _ in held])
-    unseen = within_of(keep, rest_of(keep[1], lot))[2]
+def refuse_lost(hall, lot):
+    """Refuse a lot that cannot be lost: Lost tells the least word of keep within it."""
+    unseen = within_of(hall[0], lot)[2]
     if len(unseen) > 0:
         # The last settled row begins last, and with 1: no word but that of noughts is less.
         raise Lost(unseen[-1])
+
+
+def mended(hall, held):
+    """The stock by what some shelves hold; Lost if it hangs on the others, Torn(()) without one."""
+    demand(is_some_held(hall, held), "held")
+    lot = tuple([shelf for shelf, _ in held])
+    refuse_lost(hall, rest_of(hall[0][1], lot))
     return fitting_stock(hall, lot, [dealt for _, dealt in held])
 
 

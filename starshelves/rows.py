@@ -23,6 +23,11 @@ def picked(one, lot):
     return tuple([one[place] for place in lot])
 
 
+def digit_of_products(prime, one, other):
+    """The sum of the products of both words, place by place."""
+    return sum([left * right for left, right in zip(one, other)]) % prime
+
+
 def inverse_of(prime, digit):
     """The digit whose product with this one, which is not 0, is 1."""
     return [other for other in range(1, prime) if digit * other % prime == 1][0]
@@ -64,6 +69,12 @@ def settled(prime, words):
     for word in words:
         rows = grown(prime, rows, word)
     return rows
+
+
+def rows_off(prime, rows, lot):
+    """The settled rows of those sums of multiples of the rows that are 0 on the lot."""
+    longer = settled(prime, [picked(row, lot) + row for row in rows])
+    return tuple([row[len(lot):] for row in longer if lead_of(row) >= len(lot)])
 
 
 def are_settled(rows):

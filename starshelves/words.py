@@ -2,7 +2,7 @@
 
 from starshelves.demands import demand
 from starshelves.kinds import is_digit, is_lot, is_prime, is_some_word, is_word
-from starshelves.rows import picked
+from starshelves.rows import digit_of_products, picked
 
 
 def demand_two_words(prime, one, other):
@@ -41,7 +41,7 @@ def times(prime, digit, one):
 def sum_of_products(prime, one, other):
     """The digit that is the sum of the products, place by place."""
     demand_two_words(prime, one, other)
-    return sum([left * right for left, right in zip(one, other)]) % prime
+    return digit_of_products(prime, one, other)
 
 
 def demand_word(one):

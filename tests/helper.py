@@ -15,6 +15,16 @@ STOCK = (((1, 2, 3, 4),), ((2, 2, 2, 2),))
 PAIRS = (5, 4, ((1, 1, 0, 0), (0, 0, 1, 2)))
 TURNED = (5, 4, ((1, 0, 1, 0), (0, 1, 0, 1)))
 
+# The names that the document's examples share.
+HEAD = r"""
+>>> KEEP = (5, 4, ((1, 0, 4, 3), (0, 1, 2, 3)))
+>>> HIDE = (5, 4, ((1, 1, 1, 1),))
+>>> HALL = (KEEP, HIDE)
+>>> STOCK = (((1, 2, 3, 4),), ((2, 2, 2, 2),))
+>>> PAIRS = (5, 4, ((1, 1, 0, 0), (0, 0, 1, 2)))
+>>> TURNED = (5, 4, ((1, 0, 1, 0), (0, 1, 0, 1)))
+"""
+
 DEEP = ()
 for _ in range(29):
     DEEP = (DEEP, True)
@@ -24,6 +34,34 @@ ODD = (
     None, True, False, -1, -(10 ** 59), "", "1", "book 2 1", "0 1", [], [0], [1, 1], [(1, 1)], ["x", []],
     (None,), (True, 1), (1, False), ("1", "0"), ([1], 1), ((1,), (0,)), ((), ()), (-1, 0), (1, 10 ** 59),
     (2, 2), ((1, 1), (1, 1)), DEEP, [DEEP], (2, True, ()), (True, 1, ()), [2, 1, ()],
+)
+
+LONG = 10 ** 60 - 1
+NO_NUMBERS = (None, True, False, -1, -LONG, "1", (1,), [1], ())
+# Values that are none of the kind for the hall and the stock of the examples.
+NO_LOTS = (*ODD, 5, "0", [0], (4,), (3, 0), (0, 0), (-1,), (True,), ((0,),), (LONG,))
+NO_SHELVES = (None, True, False, -1, 4, LONG, -LONG, "0", (0,), [0])
+NO_BOOKS = (
+    *ODD, 5, (), KEEP[:2], (*KEEP, 1), list(KEEP), (5, 4, [(1, 1, 1, 1)]), (5, 4, ((2, 0, 0, 0),)), (5, 4, ((0,) * 4,)),
+    (5, 4, ((0, 1, 0, 0), (1, 0, 0, 0))), (5, 4, ((1, 1, 0, 0), (0, 1, 0, 0))), (5, 4, ((1, 1, 1),)), (7, 4, ()), (5, 3, ()),
+    (5, 5, ()), (5, True, ()), (5, 4, ((True, 0, 0, 0),)),
+)
+NO_WORDS = (
+    *ODD, 5, (), "1 1 0 0", [1, 1, 0, 0], (1, 1, 0), (1, 1, 0, 0, 0), (1, 1, 0, 5), (1, 1, 0, -1), (1, True, 0, 0),
+    (1, 1, 0, False), (1, 1, 0, None), (1, 1, 0, "0"), (1, 1, 0, (0,)), ((1, 1, 0, 0),), (LONG, 1, 0, 0),
+)
+NO_FAMILIES = (
+    *ODD, 5, "0", (0,), [], [(0,)], ([0],), ((4,),), ((1, 0),), ((0, 0),), ((1,), (0,)), ((0,), (0,)), ((0,), ()),
+    ((0,), (0, 1), (0,)), ((0,), None), ((), (True,)), ((), ("0",)), (((0,),),), ((-1,),), ((1,), (0, 1)),
+)
+NO_PLANS = (
+    *ODD, 5, (), (1, 1, 0, 0), [(1, 1, 0, 0)], ([1, 1, 0, 0],), ((1, 1, 0),), ((1, 1, 0, 0), None), ((1, 1, 0, 0), ()),
+    ((1, 1, 0, 0), (1, 1, 0, 5)), ((1, True, 0, 0),), ((1, 1, 0, 0, 0),), (((1, 1, 0, 0),),), "1 1 0 0",
+)
+NO_STOCKS = (
+    *ODD, 5, (), ((),), (((1, 2, 3, 4),), ()), [((1, 2, 3, 4),)], ([(1, 2, 3, 4)],), ((1, 2, 3, 4),), (((1, 2, 3),),),
+    (((1, 2, 3, 0),),), (((1, 2, 3, 4), (1, 1, 1, 2)),), (((1, 2, 3, 4),), ((1, 1, 1, True),)), (((1, 2, 3, 5),),),
+    (((1, 1, 1, 1),), None),
 )
 
 
@@ -256,3 +294,114 @@ def some_stock(chance, hall):
             file.append(tuple(sum(d * row[k] for d, row in zip(digits, rows)) % prime for k in range(size)))
         stock.append(tuple(file))
     return tuple(stock)
+
+
+def rank_of_rows(prime, rows):
+    """The rank of the rows, by taking multiples of some off the others."""
+    rows = [list(row) for row in rows]
+    rank = 0
+    for place in range(len(rows[0]) if rows else 0):
+        some = [row for row in rows[rank:] if row[place]]
+        if some:
+            head = some[0]
+            at = rows.index(head, rank)
+            rows[rank], rows[at] = rows[at], rows[rank]
+            for k in range(rank + 1, len(rows)):
+                factor = rows[k][place] * pow(head[place], -1, prime)
+                rows[k] = [(left - factor * right) % prime for left, right in zip(rows[k], head)]
+            rank += 1
+    return rank
+
+
+def small_halls(seed):
+    """Halls whose keep has few words, over all six primes, some with shelves that are 0 in all words of it."""
+    chance = chance_of(seed)
+    for prime in PRIMES:
+        for size in range(1, 6):
+            rank = chance.randint(1, min(size, 3 if prime < 5 else 2))
+            keep = some_book(chance, prime, size, rank, chance.randint(0, 1))
+            yield (keep, some_book(chance, prime, size)), chance
+
+
+def tiny_halls(seed, most=130, many=2):
+    """Halls of which all words of the prime and size are at most so many, over all six primes.
+
+    Of each prime and size some have a hide without rows, some one of all words, and some have shelves that are
+    0 in all words of keep, or of hide.
+    """
+    chance = chance_of(seed)
+    for prime in PRIMES:
+        size = 1
+        while prime ** size <= most:
+            for rank in (0, size, *[chance.randint(0, size) for _ in range(many)]):
+                keep = some_book(chance, prime, size, chance.randint(1, size), chance.randint(0, 1))
+                yield (keep, some_book(chance, prime, size, rank, chance.randint(0, 1))), chance
+            size += 1
+
+
+def least(lots):
+    """Those of some lots of which no lesser part is among them."""
+    return tuple(sorted(lot for lot in lots if not any(set(other) < set(lot) for other in lots)))
+
+
+def greatest(lots):
+    """Those of some lots that are part of no greater one among them."""
+    return tuple(sorted(lot for lot in lots if not any(set(lot) < set(other) for other in lots)))
+
+
+def plus(prime, one, other, digit=1):
+    """The word one, and the other word times the digit."""
+    return tuple((left + digit * right) % prime for left, right in zip(one, other))
+
+
+def times_by_hand(prime, one, other):
+    """The product of two words, place by place."""
+    return tuple(left * right % prime for left, right in zip(one, other))
+
+
+def some_word_in(chance, book):
+    """A word of the book by chance."""
+    word = (0,) * book[1]
+    for row in book[2]:
+        word = plus(book[0], word, row, chance.randrange(book[0]))
+    return word
+
+
+def checks_by_hand(book):
+    """The set of all words whose sum of products with each word of the book is 0, by going through all words."""
+    prime, size, rows = book
+    return {one for one in all_words(prime, size) if not any(dot(prime, one, row) for row in rows)}
+
+
+def some_covers(chance, hall, stock):
+    """Drawn covers for the stock."""
+    return tuple(tuple(some_word_in(chance, hall[1]) for _ in file) for file in stock)
+
+
+def some_slot(chance, stock):
+    """A slot of the stock by chance."""
+    at = chance.randrange(len(stock))
+    return (at, chance.randrange(len(stock[at])))
+
+
+def lies_within(one, lot):
+    """Whether all digits of the word at other places are 0."""
+    return all(digit == 0 or place in lot for place, digit in enumerate(one))
+
+
+def check_refused(case, call, ahead, given, odd):
+    """Each parameter is refused for each odd value, alone and with odd ones in place of all behind it.
+
+    ahead has what stands ahead and is never refused, given good values by name, odd those values that are not
+    as stated, by name; parameters that are not in odd are never refused.
+    """
+    names = list(given)
+    for at, name in enumerate(names):
+        for wrong in odd.get(name, ()):
+            alone = {**given, name: wrong}
+            further = {other: odd[other][0] for other in names[at + 1:] if other in odd}
+            for told in (alone, {**alone, **further}):
+                before = shown(told)
+                case.assertEqual(raised(call, *ahead, *told.values()), not_usable(name), (name, wrong))
+                case.assertEqual(shown(told), before)
+            case.assertEqual(raised(call, *ahead, **alone), not_usable(name), (name, wrong))

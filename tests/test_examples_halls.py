@@ -2,16 +2,7 @@
 
 import unittest
 
-from tests.helper import run_examples
-
-HEAD = r"""
->>> KEEP = (5, 4, ((1, 0, 4, 3), (0, 1, 2, 3)))
->>> HIDE = (5, 4, ((1, 1, 1, 1),))
->>> HALL = (KEEP, HIDE)
->>> STOCK = (((1, 2, 3, 4),), ((2, 2, 2, 2),))
->>> PAIRS = (5, 4, ((1, 1, 0, 0), (0, 0, 1, 2)))
->>> TURNED = (5, 4, ((1, 0, 1, 0), (0, 1, 0, 1)))
-"""
+from tests.helper import HEAD, run_examples
 
 STAGE_5 = r"""
 >>> from starshelves.commonchecker import lets_common
@@ -67,8 +58,9 @@ raises Lost(within=(1, 3, 0, 2))
 >>> mended(HALL, ((0, ((1,),)), (1, ((2,),)), (2, ((4,),))))
 raises Torn(ways=())
 >>> from starshelves.mendchecker import lets_mend
->>> [lets_mend(HALL, (0, 1), ('mends', ((1, 0, 2, 2), (0, 1, 3, 1)))), lets_mend(HALL, (0, 1, 3), ('lost', (2, 1, 0, 4)))]
-[True, False]
+>>> from starshelves.mendpapers import mend_paper
+>>> [lets_mend(HALL, (0, 1), ('mends', ((1, 0, 2, 2), (0, 1, 3, 1)))), lets_mend(HALL, (0, 1, 3), ('lost', (2, 1, 0, 4))), mend_paper(HALL, (1, 2, 3))[0]]
+[True, False, 'lost']
 >>> lets_mend(HALL, (0, 1), ('mends', ((1, 0, 2, 2), (1, 1, 0, 3))))
 raises InvalidPaper(word='place', at=1)
 """

@@ -8,13 +8,9 @@ from starshelves.freelots import bases_of, is_free, rank_on
 from starshelves.frees import Free
 from starshelves.kinds import is_lot
 from tests.helper import (
-    KEEP, ODD, PAIRS, PRIMES, TURNED, all_books, chance_of, invalid, lots_below, not_usable, raised, rest_of, shown,
-    some_book, some_lot,
+    KEEP, NO_LOTS, ODD, PAIRS, PRIMES, TURNED, all_books, chance_of, invalid, lots_below, not_usable, raised, rest_of,
+    shown, some_book, some_lot,
 )
-
-LONG = 10 ** 60 - 1
-NO_LOTS = (*ODD, 5, "0", [0], (4,), (3, 0), (0, 0), (-1,), (True,), ((0,),), (LONG,))
-
 
 def some_books(seed, many=4, most=8):
     """Books of up to eight places over all six primes, some with places that are 0 in all words."""

@@ -7,17 +7,11 @@ from starshelves.hallchecker import lets_hall
 from starshelves.stockkinds import is_file, is_hall, is_slot, is_stock
 from starshelves.stocks import shelf_of, shelves_of, slots_of, stock_from
 from tests.helper import (
-    HALL, HIDE, KEEP, ODD, STOCK, all_words, chance_of, invalid, not_usable, raised, shown, some_halls, some_stock,
+    HALL, HIDE, KEEP, LONG, NO_SHELVES, NO_STOCKS, ODD, STOCK, all_words, chance_of, invalid, not_usable, raised, shown, some_halls, some_stock,
     words_by_hand,
 )
 
-LONG = 10 ** 60 - 1
 NO_BOOKS = (*ODD, 5, list(KEEP), KEEP[:2], (5, 4, ((2, 0, 0, 0),)), (4, 4, ()), (5, True, ()), (5, 4, [(1, 1, 1, 1)]))
-NO_STOCKS = (
-    *ODD, 5, (), ((),), (((1, 2, 3, 4),), ()), [((1, 2, 3, 4),)], ([(1, 2, 3, 4)],), ((1, 2, 3, 4),), (((1, 2, 3),),),
-    (((1, 2, 3, 0),),), (((1, 2, 3, 4), (1, 1, 1, 2)),), (((1, 2, 3, 4),), ((1, 1, 1, True),)), (((1, 2, 3, 5),),),
-    (((1, 1, 1, 1),), None),
-)
 
 
 class Judged(unittest.TestCase):
@@ -102,7 +96,7 @@ class Held(unittest.TestCase):
             self.assertEqual(raised(shelf_of, HALL, stock, None), not_usable("stock"))
             self.assertEqual(raised(shelves_of, HALL, stock), not_usable("stock"))
             self.assertEqual(raised(slots_of, HALL, stock), not_usable("stock"))
-        for shelf in (None, True, False, -1, 4, LONG, -LONG, "0", (0,), [0]):
+        for shelf in NO_SHELVES:
             self.assertEqual(raised(shelf_of, HALL, STOCK, shelf), not_usable("shelf"))
 
     def test_held_values_that_are_none(self):

@@ -15,7 +15,7 @@ LIBRARY = {
 }
 BUILTINS = set(
     "len range enumerate zip min max sum abs sorted reversed int str bool list tuple dict set isinstance ord repr any all "
-    "divmod iter next map ValueError KeyError NotImplemented".split()
+    "divmod iter next map ValueError TypeError KeyError NotImplemented".split()
 )
 DUNDERS = set(
     "init eq repr str len enter exit call iter lt le gt ge ne add sub mul floordiv mod pow and or xor lshift rshift "

@@ -8,33 +8,14 @@ from starshelves.mendchecker import lets_mend
 from starshelves.mending import can_mend, cheapest_menders, distance_of, least_losses, mended, menders_of
 from starshelves.stocks import shelves_of
 from tests.helper import (
-    HALL, KEEP, ODD, PRIMES, STOCK, all_words, chance_of, dot, invalid, lots_below, not_usable, raised, rest_of, shown,
-    some_book, some_halls, some_lot, some_stock, words_by_hand,
+    HALL, KEEP, LONG, NO_LOTS, NO_SHELVES, ODD, PRIMES, STOCK, all_words, dot, invalid, least, lots_below, not_usable,
+    raised, rank_of_rows, rest_of, shown, small_halls, some_halls, some_lot, some_stock, words_by_hand,
 )
-
-LONG = 10 ** 60 - 1
-NO_LOTS = (*ODD, 5, "0", [0], (4,), (3, 0), (0, 0), (-1,), (True,), ((0,),), (LONG,))
-NO_SHELVES = (None, True, False, -1, 4, LONG, -LONG, "0", (0,), [0])
-
-
-def small_halls(seed):
-    """Halls of few words, over all six primes, some with shelves that are 0 in all words."""
-    chance = chance_of(seed)
-    for prime in PRIMES:
-        for size in range(1, 6):
-            rank = chance.randint(1, min(size, 3 if prime < 5 else 2))
-            keep = some_book(chance, prime, size, rank, chance.randint(0, 1))
-            yield (keep, some_book(chance, prime, size)), chance
 
 
 def mends_by_hand(words, lot, shelf):
     """Whether no word is 0 on the lot and not 0 at the shelf."""
     return not any(one[shelf] != 0 and not any(one[place] for place in lot) for one in words)
-
-
-def least(lots):
-    """Those of some lots of which no lesser part is among them."""
-    return tuple(sorted(lot for lot in lots if not any(set(other) < set(lot) for other in lots)))
 
 
 class Shelves(unittest.TestCase):
@@ -296,25 +277,8 @@ class Consequences(unittest.TestCase):
             for shelf in range(size):
                 lot = tuple(place for place in some_lot(chance, size) if place != shelf)
                 some = any(set(part) <= set(lot) for part in menders_of(hall, shelf))
-                rows = [[row[place] for place in lot] + [row[shelf]] for row in hall[0][2]]
-                self.assertEqual(some, rank_of_rows(hall[0][0], rows, False) == rank_of_rows(hall[0][0], rows, True))
-
-
-def rank_of_rows(prime, rows, last):
-    """The rank of the rows, with their last digit or without it."""
-    rows = [list(row if last else row[:-1]) for row in rows]
-    rank = 0
-    for place in range(len(rows[0])):
-        some = [row for row in rows[rank:] if row[place]]
-        if some:
-            head = some[0]
-            at = rows.index(head, rank)
-            rows[rank], rows[at] = rows[at], rows[rank]
-            for k in range(rank + 1, len(rows)):
-                factor = rows[k][place] * pow(head[place], -1, prime)
-                rows[k] = [(left - factor * right) % prime for left, right in zip(rows[k], head)]
-            rank += 1
-    return rank
+                less, more = [[[row[place] for place in part] for row in hall[0][2]] for part in (lot, (*lot, shelf))]
+                self.assertEqual(some, rank_of_rows(hall[0][0], less) == rank_of_rows(hall[0][0], more))
 
 
 if __name__ == "__main__":
