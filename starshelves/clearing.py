@@ -4,7 +4,7 @@ from starshelves.demands import demand
 from starshelves.errors import Torn
 from starshelves.fitting import some_fitting_stock
 from starshelves.kinds import is_lot, is_number
-from starshelves.lots import all_lots, rest_of
+from starshelves.lots import lots_of, rest_of
 from starshelves.mending import least_losses, refuse_lost
 from starshelves.rows import picked
 from starshelves.stockkinds import is_some_held
@@ -33,13 +33,12 @@ def cleared(hall, held, many):
     lost = rest_of(hall[0][1], tuple([shelf for shelf, _ in held]))
     refuse_lost(hall, lost)
     demand(clears(hall, lost, many), "many")
-    for liars in all_lots(len(held)):
-        if len(liars) == many:
-            honest = picked(held, rest_of(len(held), liars))
-            lot = tuple([shelf for shelf, _ in honest])
-            stock = some_fitting_stock(hall, lot, [dealt for _, dealt in honest])
-            if stock is not None:
-                return stock
+    for liars in lots_of(len(held), many):
+        honest = picked(held, rest_of(len(held), liars))
+        lot = tuple([shelf for shelf, _ in honest])
+        stock = some_fitting_stock(hall, lot, [dealt for _, dealt in honest])
+        if stock is not None:
+            return stock
     raise Torn(())
 
 

@@ -15,24 +15,23 @@ class Hall:
 
     def __init__(self, keep, hide):
         lets_hall((keep, hide))
-        self._keep = keep
-        self._hide = hide
+        self._form = (keep, hide)
         self._star = star_of(keep, hide)
 
     @property
     def keep_now(self):
         """The book of what is kept."""
-        return self._keep
+        return self._form[0]
 
     @property
     def hide_now(self):
         """The book of the covers."""
-        return self._hide
+        return self._form[1]
 
     @property
     def form_now(self):
         """The hall."""
-        return (self._keep, self._hide)
+        return self._form
 
     @property
     def star_now(self):
@@ -42,58 +41,58 @@ class Hall:
     @property
     def places_now(self):
         """How many shelves there are."""
-        return self._keep[1]
+        return self._form[0][1]
 
     def __call__(self, lot):
         """Whether the lot can be lost."""
-        return can_mend((self._keep, self._hide), lot)
+        return can_mend(self._form, lot)
 
     def __getitem__(self, shelf):
         """The set of the least lots of other shelves that mend the shelf."""
-        return menders_of((self._keep, self._hide), shelf)
+        return menders_of(self._form, shelf)
 
     def __iter__(self):
         raise TypeError("a Hall is not iterated over")
 
     def __contains__(self, thing):
         """Whether any value is a word of keep."""
-        return is_word_in(self._keep, thing)
+        return is_word_in(self._form[0], thing)
 
     def __len__(self):
         """The rank of keep."""
-        return len(self._keep[2])
+        return len(self._form[0][2])
 
     def __eq__(self, other):
-        return isinstance(other, Hall) and self._keep == other._keep and self._hide == other._hide
+        return isinstance(other, Hall) and self._form == other._form
 
     def losses(self):
         """The set of the least lots that cannot be lost."""
-        return least_losses((self._keep, self._hide))
+        return least_losses(self._form)
 
     def distance(self):
         """The fewest shelves of a lot that cannot be lost."""
-        return distance_of((self._keep, self._hide))
+        return distance_of(self._form)
 
     def borne(self, lot):
         """The most other shelves whose lies can be cleared while the lot is lost."""
-        return most_borne((self._keep, self._hide), lot)
+        return most_borne(self._form, lot)
 
     def mend(self, held):
         """The stock by what some shelves hold."""
-        return mended((self._keep, self._hide), held)
+        return mended(self._form, held)
 
     def paper(self, lot):
         """A paper on whether the lot can be lost."""
-        return mend_paper((self._keep, self._hide), lot)
+        return mend_paper(self._form, lot)
 
     def judged(self, lot, thing):
         """Whether the lot can be lost, by any value that is a paper."""
-        return lets_mend((self._keep, self._hide), lot, thing)
+        return lets_mend(self._form, lot, thing)
 
     def exchanged(self):
         """The Hall of hide and keep."""
-        demand(len(self._hide[2]) > 0, "hide")
-        return Hall(self._hide, self._keep)
+        demand(len(self._form[1][2]) > 0, "hide")
+        return Hall(self._form[1], self._form[0])
 
     @classmethod
     def of(cls, thing):

@@ -26,9 +26,8 @@ def dealt_further(deals, wanted, parts):
     return found
 
 
-def joint_lots(one, others):
-    """Lots apart, each free in one of the others, together free in one, of as many places as can be."""
-    demand(are_others(one[1], others), "others")
+def dealt_lots(one, others):
+    """Lots as joint_lots tells them, of however many others."""
     lots = all_lots(one[1])
     wanted = {at: True for at in free_indexes(one)}
     deals = {0: ()}
@@ -36,6 +35,12 @@ def joint_lots(one, others):
         deals = dealt_further(deals, wanted, free_indexes(other))
     most = max(list(deals), key=lambda taken: len(lots[taken]))
     return tuple([lots[part] for part in deals[most]])
+
+
+def joint_lots(one, others):
+    """Lots apart, each free in one of the others, together free in one, of as many places as can be."""
+    demand(are_others(one[1], others), "others")
+    return dealt_lots(one, others)
 
 
 def joint_size(one, others):

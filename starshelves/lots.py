@@ -13,6 +13,11 @@ def all_lots(size):
     return lots
 
 
+def lots_of(size, many):
+    """The lots of just so many places below size, ascending; without any, if they are fewer places."""
+    return sorted([lot for lot in all_lots(size) if len(lot) == many])
+
+
 def rest_of(size, lot):
     """All places that are not in the lot."""
     return tuple([place for place in range(size) if place not in lot])

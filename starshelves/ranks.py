@@ -41,10 +41,16 @@ def rings_in(book):
     return tuple(sorted(rings))
 
 
-def least_cut(one, others):
-    """A lot for which the rank of one on its rest and those of all others on it come to the least sum."""
+def cut_sums(one, others):
+    """For each lot, in the order of all_lots, the rank of one on its rest and those of all others on it, summed."""
     # The ranks on the rests are those on the lots, turned round: see all_lots.
     sums = ranks_of(one)[::-1]
     for other in others:
         sums = [total + rank for total, rank in zip(sums, ranks_of(other))]
+    return sums
+
+
+def least_cut(one, others):
+    """A lot for which the rank of one on its rest and those of all others on it come to the least sum."""
+    sums = cut_sums(one, others)
     return all_lots(one[1])[sums.index(min(sums))]

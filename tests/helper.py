@@ -405,3 +405,116 @@ def check_refused(case, call, ahead, given, odd):
                 case.assertEqual(raised(call, *ahead, *told.values()), not_usable(name), (name, wrong))
                 case.assertEqual(shown(told), before)
             case.assertEqual(raised(call, *ahead, **alone), not_usable(name), (name, wrong))
+
+
+def some_plan(chance, hall, most=3):
+    """A plan by chance: any marks, now and then words of hide or noughts."""
+    plan = []
+    for _ in range(chance.randint(1, most)):
+        mark = some_word(chance, *hall[0][:2])
+        plan.append(some_word_in(chance, hall[1]) if chance.random() < 0.1 else mark)
+    return tuple(plan)
+
+
+def some_silences(chance, hall, plan, share=0.15):
+    """Silences by chance: now and then none, the same lot in all rounds, or all shelves in one."""
+    size = hall[0][1]
+    if chance.random() < 0.25:
+        return ((),) * len(plan)
+    lots = [tuple(place for place in range(size) if chance.random() < share) for _ in plan]
+    if chance.random() < 0.1:
+        lots[chance.randrange(len(lots))] = tuple(range(size))
+    return (lots[0],) * len(lots) if chance.random() < 0.3 else tuple(lots)
+
+
+def some_plans(seed, most=130, many=2, rounds=3):
+    """Tiny halls, each with a plan and silences of it, and a source of chances."""
+    for hall, chance in tiny_halls(seed, most, many):
+        plan = some_plan(chance, hall, rounds)
+        yield hall, plan, some_silences(chance, hall, plan), chance
+
+
+def great_plans(seed, many=3, rounds=8):
+    """Halls of up to eight shelves, each with a plan of up to eight rounds and silences of it."""
+    for hall, chance in some_halls(seed, many):
+        plan = some_plan(chance, hall, rounds)
+        yield hall, plan, some_silences(chance, hall, plan), chance
+
+
+def star_by_hand(hall):
+    """The set of all sums of products of a word of keep and one of hide, by hand."""
+    prime, size, rows = hall[0]
+    return sums_by_hand(prime, size, [times_by_hand(prime, one, other) for one in rows for other in hall[1][2]])
+
+
+def leads_by_hand(book):
+    """The places at which the rows have their first 1."""
+    return [[place for place, digit in enumerate(row) if digit][0] for row in book[2]]
+
+
+def sent_answers(hall, stock, slot, plan, silences, chance):
+    """The answers to asks for the slot with the marks of the plan, drawn covers each time, as [7] tells them."""
+    prime, size, _ = hall[0]
+    told = []
+    for mark, silent in zip(plan, silences):
+        covers = some_covers(chance, hall, stock)
+        digits = [0] * size
+        for at, file in enumerate(stock):
+            for row, word in enumerate(file):
+                sent = covers[at][row]
+                if (at, row) == slot:
+                    sent = plus(prime, sent, mark)
+                digits = [(digit + left * right) % prime for digit, left, right in zip(digits, word, sent)]
+        told.append(tuple((shelf, digits[shelf]) for shelf in range(size) if shelf not in silent))
+    return tuple(told)
+
+
+def lied_answers(prime, answers, liars, chance):
+    """The answers, but that the liars answer any digits."""
+    return tuple(tuple((shelf, chance.randrange(prime) if shelf in liars else digit) for shelf, digit in part) for part in answers)
+
+
+def is_blind_by_hand(hall, plan, silences, word, stars):
+    """Whether for each round some word of the star, added to the word's product with the mark, lies within the silent lot."""
+    prime = hall[0][0]
+    for mark, silent in zip(plan, silences):
+        product = times_by_hand(prime, word, mark)
+        if not any(lies_within(plus(prime, star, product), silent) for star in stars):
+            return False
+    return True
+
+
+def explains_by_hand(hall, plan, answers, word, stars, liars):
+    """Whether the word explains the answers but for the lot, by going through all words of the star."""
+    prime = hall[0][0]
+    for mark, part in zip(plan, answers):
+        product = times_by_hand(prime, word, mark)
+        heard = [(shelf, digit) for shelf, digit in part if shelf not in liars]
+        if not any(all((star[shelf] + product[shelf]) % prime == digit for shelf, digit in heard) for star in stars):
+            return False
+    return True
+
+
+def point_halls(seed, primes=(5, 7, 11, 13)):
+    """Halls of polynomials, of which plans of several rounds read, each with a silent lot."""
+    chance = chance_of(seed)
+    for prime in primes:
+        size = min(prime, 8)
+        points = tuple(chance.sample(range(prime), size))
+        for kept, hidden in ((1, 1), (2, 1), (3, 2), (4, 1), (4, 2), (5, 1), (5, 3)):
+            if kept + hidden <= size:
+                hall = tuple(book_of_points(prime, points, rank) for rank in (kept, hidden))
+                for many in range(0, size - kept - hidden + 2):
+                    yield hall, tuple(sorted(chance.sample(range(size), many))), chance
+
+
+def book_of_points(prime, points, rank):
+    """The book of the values at the points of all polynomials of degree below rank."""
+    rows = [[pow(point, degree, prime) for point in points] for degree in range(rank)]
+    # The first places, as many as there are rows, are free: so the rows begin there, one after the other.
+    for k in range(rank):
+        head = next(row for row in rows[k:] if row[k])
+        rows[rows.index(head)], rows[k] = rows[k], head
+        head = rows[k] = [digit * pow(head[k], -1, prime) % prime for digit in head]
+        rows = [row if row is head else [(a - row[k] * b) % prime for a, b in zip(row, head)] for row in rows]
+    return (prime, len(points), tuple(tuple(row) for row in rows))

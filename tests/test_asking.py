@@ -15,8 +15,8 @@ MARK = (1, 1, 0, 0)
 COVERS = (((3, 3, 3, 3),), ((4, 4, 4, 4),))
 ASK = ((1, 0), MARK)
 NO_COVERS = (
-    *ODD, 5, (), STOCK, list(COVERS), COVERS[:1], COVERS + COVERS[:1], (COVERS[0], list(COVERS[1])), (COVERS[0], None), (COVERS[0], ()),
-    (COVERS[0], COVERS[1] * 2), (COVERS[0], ([4, 4, 4, 4],)), (COVERS[0], ((4, 4, 4, 3),)), (COVERS[0], ((4, 4, 4),)),
+    *ODD, 5, (), STOCK, list(COVERS), COVERS[:1], COVERS + COVERS[:1], (COVERS[0], list(COVERS[1])), (COVERS[0], None),
+    (COVERS[0], ()), (COVERS[0], COVERS[1] * 2), (COVERS[0], ([4, 4, 4, 4],)), (COVERS[0], ((4, 4, 4, 3),)), (COVERS[0], ((4, 4, 4),)),
     (COVERS[0], ((5, 5, 5, 5),)), (COVERS[0], ((True, 1, 1, 1),)), (COVERS[0], ((False,) * 4,)), (COVERS[0], (4, 4, 4, 4)),
 )
 NO_ASKS = (
@@ -25,8 +25,8 @@ NO_ASKS = (
     ((1,), MARK), ((1, 0, 0), MARK), (1, MARK), (("1", "0"), MARK), ((LONG, 0), MARK), (None, MARK),
 )
 NO_LETTERS = (
-    *[thing for thing in ODD if thing != ((1,), (0,))], 5, (), ((3,),), ((3,), (4,), (1,)), [(3,), (4,)], ((3,), [4]), ((3,), 4), ((3,), None), ((3,), ()), ((3,), (4, 4)),
-    ((3,), (5,)), ((3,), (-1,)), ((3,), (True,)), ((3,), ("4",)), ((3,), (LONG,)), (3, 4), STOCK,
+    *[thing for thing in ODD if thing != ((1,), (0,))], 5, (), ((3,),), ((3,), (4,), (1,)), [(3,), (4,)], ((3,), [4]), ((3,), 4),
+    ((3,), None), ((3,), ()), ((3,), (4, 4)), ((3,), (5,)), ((3,), (-1,)), ((3,), (True,)), ((3,), ("4",)), ((3,), (LONG,)), (3, 4), STOCK,
 )
 REFUSED = {
     "stock": NO_STOCKS, "ask": NO_ASKS, "covers": NO_COVERS, "lot": NO_LOTS, "shelf": NO_SHELVES, "letter": NO_LETTERS,

@@ -7,8 +7,8 @@ from starshelves.hallchecker import lets_hall
 from starshelves.stockkinds import is_file, is_hall, is_slot, is_stock
 from starshelves.stocks import shelf_of, shelves_of, slots_of, stock_from
 from tests.helper import (
-    HALL, HIDE, KEEP, LONG, NO_SHELVES, NO_STOCKS, ODD, STOCK, all_words, chance_of, invalid, not_usable, raised, shown, some_halls, some_stock,
-    words_by_hand,
+    HALL, HIDE, KEEP, LONG, NO_SHELVES, NO_STOCKS, ODD, STOCK, all_words, invalid, not_usable, raised, shown, some_halls,
+    some_stock, words_by_hand,
 )
 
 NO_BOOKS = (*ODD, 5, list(KEEP), KEEP[:2], (5, 4, ((2, 0, 0, 0),)), (4, 4, ()), (5, True, ()), (5, 4, [(1, 1, 1, 1)]))

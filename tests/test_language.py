@@ -143,8 +143,8 @@ class Statements(unittest.TestCase):
                 self.assertIn(node.name.strip("_"), DUNDERS, (name, node.name))
 
     def test_expressions(self):
-        for name, node in nodes((ast.Constant, ast.Div, ast.Set, ast.SetComp, ast.NamedExpr, ast.GeneratorExp, ast.Yield)):
-            self.assertNotIsInstance(node, (ast.Div, ast.GeneratorExp, ast.Yield), name)
+        for name, node in nodes((ast.Constant, ast.Div, ast.GeneratorExp, ast.YieldFrom)):
+            self.assertNotIsInstance(node, (ast.Div, ast.GeneratorExp, ast.YieldFrom), name)
             if isinstance(node, ast.Constant):
                 self.assertNotIsInstance(node.value, (float, complex, bytes), (name, node.lineno))
                 self.assertNotIn("%", node.value if isinstance(node.value, str) else "", name)
@@ -154,6 +154,26 @@ class Statements(unittest.TestCase):
             for sign, other in zip(node.ops, node.comparators):
                 if isinstance(sign, (ast.Is, ast.IsNot)):
                     self.assertIn(getattr(other, "value", 0), (None, True, False), (name, node.lineno))
+
+    def test_generators_are_plain_functions_that_are_iterated_at_once(self):
+        made = [node for _, node in nodes(ast.FunctionDef) if any(isinstance(part, ast.Yield) for part in ast.walk(node))]
+        tops = [node for tree in TREES.values() for node in tree.body]
+        self.assertTrue(all(node in tops for node in made))
+        names = {node.name for node in made}
+        own = [node.name for _, node in nodes(ast.FunctionDef)]
+        self.assertTrue(all(own.count(name) == 1 for name in names))
+        iterated = []
+        for _, node in nodes((ast.For, ast.comprehension, ast.Call)):
+            if not isinstance(node, ast.Call):
+                iterated.append(node.iter)
+            elif getattr(node.func, "id", "") in ("list", "tuple", "sorted", "sum", "any", "all", "min", "max", "dict"):
+                iterated.extend(node.args)
+        for name, node in nodes(ast.Call):
+            if getattr(node.func, "id", "") in names:
+                self.assertIn(node, iterated, name)
+        called = [node.func for _, node in nodes(ast.Call)]
+        for name, node in nodes(ast.Name):
+            self.assertTrue(node.id not in names or node in called, (name, node.id))
 
     def test_exponents_are_literal(self):
         for name, node in nodes(ast.BinOp):

@@ -8,7 +8,7 @@ from starshelves.mendchecker import lets_mend
 from starshelves.mending import can_mend, cheapest_menders, distance_of, least_losses, mended, menders_of
 from starshelves.stocks import shelves_of
 from tests.helper import (
-    HALL, KEEP, LONG, NO_LOTS, NO_SHELVES, ODD, PRIMES, STOCK, all_words, dot, invalid, least, lots_below, not_usable,
+    HALL, LONG, NO_LOTS, NO_SHELVES, ODD, PRIMES, STOCK, all_words, dot, invalid, least, lots_below, not_usable,
     raised, rank_of_rows, rest_of, shown, small_halls, some_halls, some_lot, some_stock, words_by_hand,
 )
 
