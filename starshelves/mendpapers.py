@@ -1,16 +1,13 @@
 """Papers on whether a lot of shelves can be lost."""
 
 from starshelves.books import checks_of, within_of
-from starshelves.demands import demand
 from starshelves.fitting import fitting_word
-from starshelves.kinds import is_lot
 from starshelves.rows import unit_word
 
 
 def mend_paper(hall, lot):
     """The checks that mend each shelf of the lot, or a word of keep that is lost with it."""
     keep = hall[0]
-    demand(is_lot(keep[1], lot), "lot")
     unseen = within_of(keep, lot)[2]
     if len(unseen) > 0:
         return ("lost", unseen[0])

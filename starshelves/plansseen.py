@@ -19,4 +19,5 @@ def twice_seen(hall, one, other, lot):
     demand(is_mark(hall, one), "one")
     demand(is_mark(hall, other), "other")
     demand(is_lot(hall[0][1], lot), "lot")
-    return picked(one, lot) != picked(other, lot) or learns(hall, one, lot) or learns(hall, other, lot)
+    # If both are the same on the lot, it learns of both or of none.
+    return picked(one, lot) != picked(other, lot) or learns(hall, one, lot)

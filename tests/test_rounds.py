@@ -276,6 +276,8 @@ class Consequences(unittest.TestCase):
             if left is not None:
                 self.assertTrue(is_book(left))
                 self.assertEqual(rank_of_rows(hall[0][0], [*hall[0][2], *left[2]]), len(hall[0][2]))
+        for hall, silent, _ in point_halls(282):
+            self.assertTrue(is_book(hall[0]) and is_book(hall[1]) and silent in lots_below(hall[0][1]))
 
 
 if __name__ == "__main__":
