@@ -8,6 +8,7 @@ from starshelves.kinds import is_lot
 from starshelves.rows import picked
 from starshelves.seeing import learns
 from starshelves.stockkinds import is_hall, is_shelf
+from starshelves.stocks import shelves_of
 
 
 class Ask:
@@ -16,9 +17,10 @@ class Ask:
     def __init__(self, hall, stock, ask, covers):
         demand(is_hall(hall), "hall")
         letters = letters_of(hall, stock, ask, covers)
+        held = shelves_of(hall, stock)
         self._form = (hall, stock, ask, covers)
         self._letters = letters
-        self._digits = tuple([answer_by(hall[0][0], stock, shelf, letter) for shelf, letter in enumerate(letters)])
+        self._digits = tuple([answer_by(hall[0][0], dealt, letter) for dealt, letter in zip(held, letters)])
 
     @property
     def hall_now(self):

@@ -26,15 +26,27 @@ def dealt_further(deals, wanted, parts):
     return found
 
 
-def dealt_lots(one, others):
-    """Lots as joint_lots tells them, of however many others."""
-    lots = all_lots(one[1])
+def all_deals(one, others):
+    """For the index of each lot that can be dealt out so, together free in one, such a deal."""
     wanted = {at: True for at in free_indexes(one)}
     deals = {0: ()}
     for other in others:
         deals = dealt_further(deals, wanted, free_indexes(other))
+    return deals
+
+
+def lots_dealt(size, deal):
+    """The lots of a deal."""
+    lots = all_lots(size)
+    return tuple([lots[part] for part in deal])
+
+
+def dealt_lots(one, others):
+    """Lots as joint_lots tells them, of however many others."""
+    lots = all_lots(one[1])
+    deals = all_deals(one, others)
     most = max(list(deals), key=lambda taken: len(lots[taken]))
-    return tuple([lots[part] for part in deals[most]])
+    return lots_dealt(one[1], deals[most])
 
 
 def joint_lots(one, others):

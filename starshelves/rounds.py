@@ -9,7 +9,7 @@ from starshelves.demands import demand
 from starshelves.joinedlots import dealt_lots
 from starshelves.kinds import is_like_book, is_lot, is_number, is_size, is_word_in
 from starshelves.lots import all_lots
-from starshelves.ranks import cut_sums, rank_at, ranks_of
+from starshelves.ranks import rank_at, ranks_of
 from starshelves.rows import rows_off
 from starshelves.tellings import star_checks
 
@@ -46,13 +46,23 @@ def cut_ratio(hall, silent, lot, left=None):
     return (len(within_of(left_by(hall, left), lot)[2]), rank_at(rest, lot))
 
 
+def cut_ranks(book, rest):
+    """For each lot, in the order of all_lots, the rank of the book on all other shelves, and that of the rest on it."""
+    # The ranks on the other shelves are those on the lots, turned round: see all_lots.
+    return list(zip(ranks_of(book)[::-1], ranks_of(rest)))
+
+
+def told_by(ranks, many):
+    """The greatest number of shelves of so many shares, by the ranks that cut_ranks tells."""
+    return min([outer + many * inner for outer, inner in ranks])
+
+
 def most_told(hall, silent, many, left=None):
     """The greatest number of shelves of so many shares."""
     rest = rest_book(hall, silent)
     demand(is_number(many), "many")
     demand(is_left(hall, left), "left")
-    # Of more shares than there are shelves some are empty.
-    return min(cut_sums(left_by(hall, left), (rest,) * min(many, hall[0][1])))
+    return told_by(cut_ranks(left_by(hall, left), rest), many)
 
 
 def least_rounds(hall, silent, left=None):
@@ -60,8 +70,9 @@ def least_rounds(hall, silent, left=None):
     rest = rest_book(hall, silent)
     demand(is_left(hall, left), "left")
     book = left_by(hall, left)
+    ranks = cut_ranks(book, rest)
     for many in range(len(book[2]) + 1):
-        if min(cut_sums(book, (rest,) * many)) == len(book[2]):
+        if told_by(ranks, many) == len(book[2]):
             return many
     return None
 
@@ -78,10 +89,9 @@ def rounds_cut(hall, silent, many, left=None):
     demand(is_number(many), "many")
     demand(is_left(hall, left), "left")
     book = left_by(hall, left)
-    # What is left within a lot has the rank that its rest lacks: see all_lots for the order of the rests.
-    inner = [len(book[2]) - rank for rank in ranks_of(book)[::-1]]
-    for lot, first, second in zip(all_lots(book[1]), inner, ranks_of(rest)):
-        if first > many * second:
+    for lot, (outer, inner) in zip(all_lots(book[1]), cut_ranks(book, rest)):
+        # What is left within the lot has the rank that is missing on all other shelves.
+        if len(book[2]) - outer > many * inner:
             return lot
     return None
 

@@ -10,6 +10,17 @@ def dealt_to(stock, shelf):
     return tuple([tuple([row[shelf] for row in file]) for file in stock])
 
 
+def with_item(items, at, item):
+    """The tuple with this item in place of the one with the index."""
+    return (*items[:at], item, *items[at + 1:])
+
+
+def with_slot(parts, slot, part):
+    """The stock with this row at the slot, or what a shelf holds with this digit there."""
+    at, row = slot
+    return with_item(parts, at, with_item(parts[at], row, part))
+
+
 def shelf_of(hall, stock, shelf):
     """What the shelf holds."""
     demand(is_stock(hall, stock), "stock")

@@ -63,6 +63,12 @@ NO_STOCKS = (
     (((1, 2, 3, 0),),), (((1, 2, 3, 4), (1, 1, 1, 2)),), (((1, 2, 3, 4),), ((1, 1, 1, True),)), (((1, 2, 3, 5),),),
     (((1, 1, 1, 1),), None),
 )
+LEFT = (5, 4, ((1, 0, 4, 3),))
+NO_LEFTS = (
+    *[thing for thing in NO_BOOKS if thing is not None], (5, 4, ((1, 0, 0, 0),)), (5, 4, ((1, 0, 4, 2),)), HALL, 0, "None", False,
+    (5, 4, ((1, 0, 4, 3), (0, 1, 2, 0))), (5, 4, ((1, 0, 0, 1), (0, 1, 0, 1), (0, 0, 1, 3))),
+)
+REFUSED = {"silent": NO_LOTS, "lot": NO_LOTS, "many": NO_NUMBERS, "left": NO_LEFTS}
 
 
 def fields_of(error):
@@ -313,6 +319,11 @@ def rank_of_rows(prime, rows):
     return rank
 
 
+def is_free_by_rows(book, lot):
+    """Whether the book cut to the lot has all words, by the rank of its rows there."""
+    return rank_of_rows(book[0], [[row[place] for place in lot] for row in book[2]]) == len(lot)
+
+
 def small_halls(seed):
     """Halls whose keep has few words, over all six primes, some with shelves that are 0 in all words of it."""
     chance = chance_of(seed)
@@ -518,3 +529,39 @@ def book_of_points(prime, points, rank):
         head = rows[k] = [digit * pow(head[k], -1, prime) % prime for digit in head]
         rows = [row if row is head else [(a - row[k] * b) % prime for a, b in zip(row, head)] for row in rows]
     return (prime, len(points), tuple(tuple(row) for row in rows))
+
+
+def some_left(chance, hall):
+    """A book of words of keep, or None, for keep."""
+    if chance.random() < 0.4:
+        return None
+    prime, size, rows = hall[0]
+    words = sums_by_hand(prime, size, [some_word_in(chance, hall[0]) for _ in range(chance.randint(0, min(2, len(rows))))])
+    return book_by_hand(prime, size, words)
+
+
+def book_by_hand(prime, size, words):
+    """The book of just these words, a row for each place at which some of them begin."""
+    starts = {}
+    for one in sorted(words):
+        places = [place for place, digit in enumerate(one) if digit]
+        if places and one[places[0]] == 1:
+            starts.setdefault(places[0], []).append(one)
+    rows = [min(starts[place], key=lambda one: [one[other] for other in sorted(starts)]) for place in sorted(starts)]
+    return (prime, size, tuple(rows))
+
+
+def tiny_left(seed, most=130, many=2):
+    """Tiny halls, each with a silent lot and a book that is left, and a source of chances."""
+    for hall, chance in tiny_halls(seed, most, many):
+        silent = some_lot(chance, hall[0][1]) if chance.random() < 0.3 else some_lot(chance, hall[0][1])[:1]
+        yield hall, silent, some_left(chance, hall), chance
+
+
+def great_left(seed, many=4):
+    """Halls of up to eight shelves likewise."""
+    for hall, chance in some_halls(seed, many):
+        left = some_left(chance, hall) if hall[0][0] ** min(2, len(hall[0][2])) < 200 else None
+        yield hall, some_lot(chance, hall[0][1])[:chance.randint(0, 3)], left, chance
+    for hall, silent, chance in point_halls(seed):
+        yield hall, silent, some_left(chance, hall) if chance.random() < 0.3 else None, chance

@@ -1,4 +1,4 @@
-"""The document's examples: marks seen, asks and plans as objects, who reads, words by answers, liars, and rounds."""
+"""The document's examples: marks seen, asks and plans as objects, who reads, words by answers, and liars."""
 
 import unittest
 
@@ -65,17 +65,6 @@ raises Torn(ways=((2, 2, 2, 2), (2, 3, 4, 0), (4, 3, 2, 1)))
 [True, True, 1, 0, True]
 """
 
-STAGE_16 = r"""
->>> from starshelves.rounds import best_lots, cut_ratio, least_rounds, most_told, rest_book, rounds_cut, unit_marks
->>> [least_rounds(HALL, silent) for silent in ((), (0,), (0, 1))]
-[1, 2, None]
->>> LEFT = (5, 4, ((1, 0, 4, 3),))
->>> [least_rounds(HALL, (0,), LEFT), least_rounds(HALL, (0,), (5, 4, ())), rest_book(HALL, (0,)), [most_told(HALL, (0,), many) for many in (0, 1, 2, 3)]]
-[1, 0, (5, 4, ((0, 1, 3, 1),)), [0, 1, 2, 2]]
->>> [cut_ratio(HALL, (0,), (1, 2, 3)), rounds_cut(HALL, (0,), 1), rounds_cut(HALL, (0,), 2), best_lots(HALL, (0, 1)), unit_marks(4, ((1,), (0, 3)))]
-[(1, 1), (0, 1, 2, 3), None, None, ((0, 1, 0, 0), (1, 0, 0, 1))]
-"""
-
 
 class Examples(unittest.TestCase):
     """Each line below an example is exactly what it gives, or the error it raises."""
@@ -91,9 +80,6 @@ class Examples(unittest.TestCase):
 
     def test_stage_15(self):
         run_examples(self, HEAD + PLANS + STAGE_14 + STAGE_15)
-
-    def test_stage_16(self):
-        run_examples(self, HEAD + STAGE_16)
 
 
 if __name__ == "__main__":

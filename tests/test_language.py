@@ -37,6 +37,7 @@ STATEMENTS = (
 FUNCTIONS = (ast.FunctionDef, ast.Lambda)
 NEW = (ast.List, ast.Dict, ast.ListComp, ast.DictComp)
 MAKERS = ("list", "dict", "sorted")
+CHANGING = ("__init__", "__call__", "__setitem__", "__enter__", "__exit__")
 CHANGERS = "append clear extend insert pop remove reverse setdefault sort update".split()
 
 
@@ -75,6 +76,17 @@ def changed_names(function):
             yield node.value
         if isinstance(node, ast.Call) and isinstance(node.func, ast.Attribute) and node.func.attr in CHANGERS:
             yield node.func.value
+
+
+def assigns_attributes(function):
+    """Whether a function assigns attributes, by whatever statement."""
+    return any(isinstance(node, ast.Attribute) and not isinstance(node.ctx, ast.Load) for node in ast.walk(function))
+
+
+def called_names(function):
+    """The names of what a function calls, and of all attributes that it reads."""
+    names = {node.func.id for node in ast.walk(function) if isinstance(node, ast.Call) and isinstance(node.func, ast.Name)}
+    return names | {node.attr for node in ast.walk(function) if isinstance(node, ast.Attribute)}
 
 
 class Files(unittest.TestCase):
@@ -182,7 +194,7 @@ class Statements(unittest.TestCase):
 
 
 class Changes(unittest.TestCase):
-    """What signs, properties and their kin reach changes nothing (L5 Operators, L28); here no function does."""
+    """What signs, properties and their kin reach changes nothing (L5 Operators, L28)."""
 
     def test_only_lists_and_dicts_that_a_function_plainly_made_are_changed(self):
         for name, function in nodes(ast.FunctionDef):
@@ -197,17 +209,48 @@ class Changes(unittest.TestCase):
                 values = made.get(changed.id, [None])
                 self.assertTrue(all(is_plainly_new(value) for value in values), (name, function.name, changed.id))
 
-    def test_attributes_are_assigned_by_init_alone(self):
+    def test_attributes_are_assigned_by_init_and_by_methods_of_classes_that_change_alone(self):
+        for name, tree in TREES.items():
+            for home in [tree, *[node for node in tree.body if isinstance(node, ast.ClassDef)]]:
+                for function in [node for node in home.body if isinstance(node, ast.FunctionDef)]:
+                    if assigns_attributes(function) and function.name != "__init__":
+                        self.assertIn(getattr(home, "name", None), ("Draft", "LiveHall", "Desk"), (name, function.name))
+                        self.assertEqual(function.decorator_list, [])
+
+    def test_signs_and_properties_reach_no_function_that_assigns_attributes(self):
+        functions = {}
+        for _, function in nodes(ast.FunctionDef):
+            functions.setdefault(function.name, []).append(function)
+        calls = {function: called_names(function) & set(functions) for _, function in nodes(ast.FunctionDef)}
         for name, function in nodes(ast.FunctionDef):
-            if function.name != "__init__":
-                for node in ast.walk(function):
-                    self.assertFalse(isinstance(node, ast.Attribute) and not isinstance(node.ctx, ast.Load), (name, function.name))
+            if not (function.decorator_list or function.name.startswith("__")) or function.name in CHANGING:
+                continue
+            reached, ahead = {function}, [function]
+            while ahead:
+                further = {other for called in calls[ahead.pop()] for other in functions[called]} - reached
+                reached |= further
+                ahead.extend(further)
+            for other in reached:
+                self.assertTrue(other.name == "__init__" or not assigns_attributes(other), (name, function.name, other.name))
 
     def test_sums_in_place_are_of_literal_integers(self):
         for name, node in nodes(ast.AugAssign):
-            self.assertIsInstance(node.target, ast.Name, (name, node.lineno))
+            self.assertIsInstance(node.target, (ast.Name, ast.Attribute), (name, node.lineno))
             self.assertIsInstance(node.op, ast.Add, (name, node.lineno))
             self.assertIsInstance(getattr(node.value, "value", None), int, (name, node.lineno))
+
+    def test_rows_of_finally_and_exit_are_plain_assignments(self):
+        blocks = [node.finalbody for _, node in nodes(ast.Try)]
+        blocks += [node.body for _, node in nodes(ast.FunctionDef) if node.name == "__exit__"]
+        for node in [node for block in blocks for node in block]:
+            self.assertIsInstance(node, ast.Assign)
+            self.assertIsInstance(node.value, (ast.Attribute, ast.Constant))
+
+    def test_own_errors_alone_are_caught(self):
+        known = {node.name for node in TREES["errors"].body if isinstance(node, ast.ClassDef)}
+        for name, node in nodes(ast.ExceptHandler):
+            caught = node.type.elts if isinstance(node.type, ast.Tuple) else [node.type]
+            self.assertLessEqual({item.id for item in caught}, known, name)
 
 
 class Names(unittest.TestCase):

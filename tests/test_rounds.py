@@ -8,53 +8,10 @@ from starshelves.kinds import is_book
 from starshelves.reading import blind_book, reads, told_rank
 from starshelves.rounds import best_lots, cut_ratio, least_rounds, most_told, rest_book, rounds_cut, unit_marks
 from tests.helper import (
-    HALL, HIDE, KEEP, LONG, NO_BOOKS, NO_LOTS, NO_NUMBERS, ODD, PRIMES, all_words, check_refused, deals_by_hand, dot,
-    lies_within, lots_below, not_usable, point_halls, raised, rank_by_hand, rank_of_rows, rest_of, shown, some_halls, some_lot, some_plan,
-    some_word_in, star_by_hand, sums_by_hand, tiny_halls, words_by_hand,
+    HALL, HIDE, KEEP, LEFT, LONG, ODD, PRIMES, REFUSED, all_words, check_refused, deals_by_hand, dot, great_left, lies_within,
+    lots_below, not_usable, point_halls, raised, rank_by_hand, rank_of_rows, rest_of, shown, some_halls, some_left, some_lot, some_plan,
+    star_by_hand, tiny_left, words_by_hand,
 )
-
-LEFT = (5, 4, ((1, 0, 4, 3),))
-NO_LEFTS = (
-    *[thing for thing in NO_BOOKS if thing is not None], (5, 4, ((1, 0, 0, 0),)), (5, 4, ((1, 0, 4, 2),)), HALL, 0, "None", False,
-    (5, 4, ((1, 0, 4, 3), (0, 1, 2, 0))), (5, 4, ((1, 0, 0, 1), (0, 1, 0, 1), (0, 0, 1, 3))),
-)
-REFUSED = {"silent": NO_LOTS, "lot": NO_LOTS, "many": NO_NUMBERS, "left": NO_LEFTS}
-
-
-def some_left(chance, hall):
-    """A book of words of keep, or None, for keep."""
-    if chance.random() < 0.4:
-        return None
-    prime, size, rows = hall[0]
-    words = sums_by_hand(prime, size, [some_word_in(chance, hall[0]) for _ in range(chance.randint(0, min(2, len(rows))))])
-    return book_by_hand(prime, size, words)
-
-
-def book_by_hand(prime, size, words):
-    """The book of just these words, a row for each place at which some of them begin."""
-    starts = {}
-    for one in sorted(words):
-        places = [place for place, digit in enumerate(one) if digit]
-        if places and one[places[0]] == 1:
-            starts.setdefault(places[0], []).append(one)
-    rows = [min(starts[place], key=lambda one: [one[other] for other in sorted(starts)]) for place in sorted(starts)]
-    return (prime, size, tuple(rows))
-
-
-def drawn(seed, most=130, many=2):
-    """Tiny halls, each with a silent lot and a book that is left, and a source of chances."""
-    for hall, chance in tiny_halls(seed, most, many):
-        silent = some_lot(chance, hall[0][1]) if chance.random() < 0.3 else some_lot(chance, hall[0][1])[:1]
-        yield hall, silent, some_left(chance, hall), chance
-
-
-def great(seed, many=4):
-    """Halls of up to eight shelves likewise."""
-    for hall, chance in some_halls(seed, many):
-        left = some_left(chance, hall) if hall[0][0] ** min(2, len(hall[0][2])) < 200 else None
-        yield hall, some_lot(chance, hall[0][1])[:chance.randint(0, 3)], left, chance
-    for hall, silent, chance in point_halls(seed):
-        yield hall, silent, some_left(chance, hall) if chance.random() < 0.3 else None, chance
 
 
 def ratio_by_hand(hall, silent, lot, left):
@@ -70,7 +27,7 @@ class Cuts(unittest.TestCase):
     """[74]."""
 
     def test_rest_and_ratios_of_small_halls(self):
-        for hall, silent, left, _ in drawn(261, 60):
+        for hall, silent, left, _ in tiny_left(261, 60):
             prime, size, _ = hall[0]
             stars, rest = star_by_hand(hall), rest_book(hall, silent)
             told = {one for one in all_words(prime, size)
@@ -81,14 +38,14 @@ class Cuts(unittest.TestCase):
                 self.assertEqual(shown(cut_ratio(hall, silent, lot, left)), shown(ratio_by_hand(hall, silent, lot, left)))
 
     def test_most_told_of_small_halls_by_all_ways_to_deal_the_shelves(self):
-        for hall, silent, left, _ in drawn(262, 35):
+        for hall, silent, left, _ in tiny_left(262, 35):
             rest = rest_book(hall, silent)
             for many in range(3):
                 told = deals_by_hand(left or hall[0], (rest,) * many)
                 self.assertEqual(shown(most_told(hall, silent, many, left)), shown(told))
 
     def test_most_told_is_the_least_over_all_lots(self):
-        for hall, silent, left, _ in great(263):
+        for hall, silent, left, _ in great_left(263):
             rank, ratios = len((left or hall[0])[2]), [cut_ratio(hall, silent, lot, left) for lot in lots_below(hall[0][1])]
             for many in (0, 1, 2, 3, 8, 9, LONG):
                 told = min(rank - first + many * second for first, second in ratios)
@@ -96,7 +53,7 @@ class Cuts(unittest.TestCase):
             self.assertEqual(most_told(hall, silent, 0, left), 0)
 
     def test_left_none_is_for_keep(self):
-        for hall, silent, _, chance in great(264, 2):
+        for hall, silent, _, chance in great_left(264, 2):
             lot = some_lot(chance, hall[0][1])
             self.assertEqual(cut_ratio(hall, silent, lot), cut_ratio(hall, silent, lot, hall[0]))
             self.assertEqual(cut_ratio(hall, silent, lot), cut_ratio(hall, silent, lot, None))
@@ -105,7 +62,7 @@ class Cuts(unittest.TestCase):
             self.assertEqual(least_rounds(hall, silent), least_rounds(hall, silent, hall[0]))
 
     def test_left_without_rows(self):
-        for hall, silent, _, chance in great(265, 2):
+        for hall, silent, _, chance in great_left(265, 2):
             none = (*hall[0][:2], ())
             self.assertEqual([least_rounds(hall, silent, none), best_lots(hall, silent, none), rounds_cut(hall, silent, 0, none)],
                              [0, (), None])
@@ -114,7 +71,7 @@ class Cuts(unittest.TestCase):
             self.assertEqual(cut_ratio(hall, silent, lot, none), (0, cut_ratio(hall, silent, lot)[1]))
 
     def test_the_lot_without_shelves(self):
-        for hall, silent, left, _ in great(266, 2):
+        for hall, silent, left, _ in great_left(266, 2):
             self.assertEqual(shown(cut_ratio(hall, silent, (), left)), "(0, 0)")
 
     def test_wrong_values(self):
@@ -141,7 +98,7 @@ class Least(unittest.TestCase):
 
     def test_least_rounds_shares_and_cuts(self):
         seen = set()
-        for hall, silent, left, _ in [*drawn(267, 130, 3), *great(268, 6)]:
+        for hall, silent, left, _ in [*tiny_left(267, 130, 3), *great_left(268, 6)]:
             size, rank = hall[0][1], len((left or hall[0])[2])
             fewest = [many for many in range(size + 2) if most_told(hall, silent, many, left) == rank]
             told = fewest[0] if fewest else None
@@ -195,7 +152,7 @@ class Guaranteed(unittest.TestCase):
     """(G5), held against all plans of small halls."""
 
     def halls(self, seed, most):
-        for hall, silent, left, chance in drawn(seed, most, 3):
+        for hall, silent, left, chance in tiny_left(seed, most, 3):
             yield hall, silent, left, chance
 
     def test_no_plan_of_so_many_rounds_tells_more(self):
@@ -227,7 +184,7 @@ class Guaranteed(unittest.TestCase):
                 self.assertEqual(most_told(hall, silent, 1), told)
 
     def test_marks_that_are_1_on_shares_tell_just_so_much(self):
-        for hall, silent, _, chance in [*drawn(274, 130, 3), *great(275, 6)]:
+        for hall, silent, _, chance in [*tiny_left(274, 130, 3), *great_left(275, 6)]:
             least = least_rounds(hall, silent)
             if least is None:
                 continue
@@ -241,7 +198,7 @@ class Guaranteed(unittest.TestCase):
                     self.assertLessEqual(told_rank(hall, drawn_plan, (silent,) * many), most_told(hall, silent, many))
 
     def test_drawn_plans_of_great_halls(self):
-        for hall, silent, _, chance in great(276, 6):
+        for hall, silent, _, chance in great_left(276, 6):
             plan = some_plan(chance, hall, 5)
             self.assertLessEqual(told_rank(hall, plan, (silent,) * len(plan)), most_told(hall, silent, len(plan)))
 
@@ -250,7 +207,7 @@ class Consequences(unittest.TestCase):
     """[76], at many inputs."""
 
     def test_least_rounds_are_the_greatest_quotient(self):
-        for hall, silent, left, _ in [*drawn(277), *great(278)]:
+        for hall, silent, left, _ in [*tiny_left(277), *great_left(278)]:
             ratios = [cut_ratio(hall, silent, lot, left) for lot in lots_below(hall[0][1])]
             ratios = [(first, second) for first, second in ratios if first]
             if any(second == 0 for _, second in ratios):
@@ -260,7 +217,7 @@ class Consequences(unittest.TestCase):
             self.assertEqual(least_rounds(hall, silent, left), told)
 
     def test_fewer_silent_shelves_or_a_left_within_the_other_one(self):
-        for hall, silent, left, chance in [*drawn(279), *great(280)]:
+        for hall, silent, left, chance in [*tiny_left(279), *great_left(280)]:
             told = least_rounds(hall, silent, left)
             if told is None:
                 continue

@@ -7,9 +7,9 @@ from starshelves.reading import told_rank
 from starshelves.rounds import cut_ratio, most_told, rest_book, unit_marks
 from starshelves.unlike import cut_in, lots_in, most_in
 from tests.helper import (
-    HALL, NO_LOTS, ODD, check_refused, deals_by_hand, lots_below, point_halls, shown, some_halls, some_lot, some_plan, tiny_halls,
+    HALL, LEFT, NO_LEFTS, NO_LOTS, ODD, check_refused, deals_by_hand, lots_below, point_halls, shown, some_halls, some_left, some_lot, some_plan,
+    tiny_halls,
 )
-from tests.test_rounds import LEFT, NO_LEFTS, some_left
 
 NO_SILENCES = (
     *[thing for thing in ODD if thing not in (((), ()), ((1,), (0,)))], 5, (), (0,), [(0,)], ([0],), ((4,),), ((1, 0),), ((0,), None),
