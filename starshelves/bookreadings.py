@@ -36,13 +36,13 @@ def stands_ahead(field, word):
     return is_prime(number) if field == 1 else field == 2 and is_size(number)
 
 
-def ahead_in(words):
+def ahead_in(words, line):
     """The prime and the size that the words of the first line of a book write."""
     for field, word in enumerate(words):
         if not stands_ahead(field, word):
-            raise InvalidText(0, field)
+            raise InvalidText(line, field)
     if len(words) < 3:
-        raise InvalidText(0, len(words))
+        raise InvalidText(line, len(words))
     return number_in(words[1]), number_in(words[2])
 
 
@@ -53,17 +53,21 @@ def row_in(prime, size, words, line):
     return digits_in(prime, size, words[1:], line, 1)
 
 
-def book_read(text):
-    """The book that the string writes."""
-    demand(isinstance(text, str), "text")
-    lines = [line.split(" ") for line in text.split("\n")]
-    prime, size = ahead_in(lines[0])
+def book_in(lines, start):
+    """The book that these lines write, of which the first one has the index start."""
+    prime, size = ahead_in(lines[0].split(" "), start)
     rows = ()
-    for k, words in enumerate(lines[1:], start=1):
-        rows = (*rows, row_in(prime, size, words, k))
+    for k, line in enumerate(lines[1:], start=start + 1):
+        rows = (*rows, row_in(prime, size, line.split(" "), k))
         if not are_settled(rows):
             raise InvalidText(k, 0)
     return (prime, size, rows)
+
+
+def book_read(text):
+    """The book that the string writes."""
+    demand(isinstance(text, str), "text")
+    return book_in(text.split("\n"), 0)
 
 
 def word_read(prime, size, text):

@@ -86,6 +86,6 @@ def are_full_shares(rest, book, thing):
     if not isinstance(thing, tuple) or not all([is_lot(rest[1], lot) for lot in thing]):
         return False
     together = [shelf for lot in thing for shelf in lot]
-    if len(set(together)) < len(together) or len(together) != len(book[2]):
-        return False
-    return rank_at(book, together) == len(together) and all([rank_at(rest, lot) == len(lot) for lot in thing])
+    # A shelf that is in two lots adds no rank: so they are apart, too, if the rank is how many shelves there are.
+    is_full = rank_at(book, together) == len(together) == len(book[2])
+    return is_full and all([rank_at(rest, lot) == len(lot) for lot in thing])

@@ -565,3 +565,245 @@ def great_left(seed, many=4):
         yield hall, some_lot(chance, hall[0][1])[:chance.randint(0, 3)], left, chance
     for hall, silent, chance in point_halls(seed):
         yield hall, silent, some_left(chance, hall) if chance.random() < 0.3 else None, chance
+
+
+def is_form_by_hand(kind, thing):
+    """Whether any value is of a kind: a number, a pair of numbers, or nonempty tuples of numbers, of these, of those."""
+    if kind == "number":
+        return thing.__class__ is int and thing >= 0
+    if kind == "pair":
+        return thing.__class__ is tuple and len(thing) == 2 and all(is_form_by_hand("number", part) for part in thing)
+    inner = {"word": "number", "rows": "word", "files": "rows"}[kind]
+    return thing.__class__ is tuple and len(thing) > 0 and all(is_form_by_hand(inner, part) for part in thing)
+
+
+EVENT_PARTS = {
+    "put": ("rows",), "drop": ("number",), "lose": ("number",), "mend": ("number",), "answer": ("number",), "write": ("pair", "word"),
+    "spoil": ("number", "pair", "number"), "close": (), "ask": ("pair", "rows", "files"),
+}
+
+
+def is_event_by_hand(thing):
+    """Whether any value is an event by form."""
+    if thing.__class__ is not tuple or not thing or thing[0].__class__ is not str or thing[0] not in EVENT_PARTS:
+        return False
+    parts = EVENT_PARTS[thing[0]]
+    if len(thing) != len(parts) + 1:
+        return False
+    if thing[0] != "ask":
+        return all(is_form_by_hand(kind, part) for kind, part in zip(parts, thing[1:]))
+    _, slot, plan, covers = thing
+    if not is_form_by_hand("pair", slot) or not is_form_by_hand("rows", plan) or covers.__class__ is not tuple:
+        return False
+    return len(covers) == len(plan) and all(is_form_by_hand("files", files) for files in covers)
+
+
+class Model:
+    """A live hall followed by hand, of a hall of few words: each event changes lists in place."""
+
+    def __init__(self, hall, most=40):
+        self.hall, self.most, self.is_shut = hall, most, False
+        self.words, self.hides = words_by_hand(hall[0]), words_by_hand(hall[1])
+        self.files, self.held = [], [[] for _ in range(hall[0][1])]
+        self.asked, self.heard = None, {}
+        self.events, self.formers = [], []
+        self.menders = {}
+
+    def menders_of(self, shelf):
+        """The least lots of other shelves at all of which no word is 0 that is not 0 at the shelf, in order."""
+        if shelf not in self.menders:
+            others = [lot for lot in lots_below(self.hall[0][1]) if shelf not in lot]
+            lots = [lot for lot in others if not any(word[shelf] and not any(word[place] for place in lot) for word in self.words)]
+            self.menders[shelf] = least(lots)
+        return self.menders[shelf]
+
+    def usable_menders(self, shelf):
+        """Those of them without a lost shelf."""
+        return [lot for lot in self.menders_of(shelf) if not any(self.held[other] is None for other in lot)]
+
+    def is_slot(self, slot):
+        return slot[0] < len(self.files) and slot[1] < len(self.files[slot[0]])
+
+    def are_covers(self, files):
+        """Whether these are covers for the files."""
+        fits = [len(part) for part in files] == [len(file) for file in self.files]
+        return fits and all(cover in self.hides for part in files for cover in part)
+
+    def reasons(self, event):
+        """All reasons that apply, in the order of the document."""
+        if not is_event_by_hand(event):
+            return ["shape"]
+        prime, size, _ = self.hall[0]
+        word, parts, told = event[0], event[1:], []
+        told += ["closed"] * self.is_shut + ["full"] * (len(self.events) >= self.most)
+        told += ["asking"] * (self.asked is not None and word in ("put", "drop", "write", "mend", "spoil", "ask"))
+        told += ["idle"] * (self.asked is None and word in ("answer", "close"))
+        if word in ("lose", "mend", "spoil", "answer"):
+            if parts[0] >= size:
+                told += ["shelf"]
+            elif word == "mend":
+                told += ["whole"] * (self.held[parts[0]] is not None) + ["alone"] * (not self.usable_menders(parts[0]))
+            else:
+                told += ["lost"] * (self.held[parts[0]] is None)
+        if word == "put":
+            told += ["file"] * (len(parts[0]) > 3 or not all(row in self.words for row in parts[0])) + ["many"] * (len(self.files) == 4)
+        if word == "drop":
+            told += ["file"] * (parts[0] >= len(self.files))
+        if word in ("write", "spoil", "ask"):
+            told += ["slot"] * (not self.is_slot(parts[1] if word == "spoil" else parts[0]))
+        if word == "write":
+            told += ["word"] * (parts[1] not in self.words)
+        if word == "spoil":
+            told += ["digit"] * (parts[2] >= prime)
+        if word == "ask":
+            marks = all(len(mark) == size and all(digit < prime for digit in mark) for mark in parts[1])
+            told += ["plan"] * (not marks or len(parts[1]) > 8) + ["covers"] * (not all(self.are_covers(files) for files in parts[2]))
+        return told + ["again"] * (word == "answer" and parts[0] in self.heard)
+
+    def apply(self, event):
+        """Apply an event that is not refused."""
+        self.formers.append(copy.deepcopy((self.files, self.held, self.asked, self.heard)))
+        self.events.append(event)
+        getattr(self, "do_" + event[0])(*event[1:])
+
+    def undo(self):
+        """Take the last event back."""
+        self.files, self.held, self.asked, self.heard = self.formers.pop()
+        return self.events.pop()
+
+    def do_put(self, rows):
+        self.files.append(list(rows))
+        for shelf, dealt in enumerate(self.held):
+            if dealt is not None:
+                dealt.append([row[shelf] for row in rows])
+
+    def do_drop(self, k):
+        del self.files[k]
+        for dealt in self.held:
+            if dealt is not None:
+                del dealt[k]
+
+    def do_write(self, slot, word):
+        self.files[slot[0]][slot[1]] = word
+        for shelf, dealt in enumerate(self.held):
+            if dealt is not None:
+                dealt[slot[0]][slot[1]] = word[shelf]
+
+    def do_lose(self, shelf):
+        self.held[shelf] = None
+
+    def do_mend(self, shelf):
+        lot = self.usable_menders(shelf)[0]
+        self.held[shelf] = [[self.follows(lot, shelf, at, row) for row in range(len(file))] for at, file in enumerate(self.files)]
+
+    def follows(self, lot, shelf, at, row):
+        """The shelf's digit of those words that have what the lot holds at the slot: of all the same."""
+        digits = {word[shelf] for word in self.words if all(word[other] == self.held[other][at][row] for other in lot)}
+        (digit,) = digits
+        return digit
+
+    def do_spoil(self, shelf, slot, digit):
+        self.held[shelf][slot[0]][slot[1]] = digit
+
+    def do_ask(self, slot, plan, covers):
+        self.asked, self.heard = (slot, plan, covers), {}
+
+    def do_answer(self, shelf):
+        prime, (slot, plan, covers) = self.hall[0][0], self.asked
+        self.heard[shelf] = []
+        for mark, files in zip(plan, covers):
+            total = 0
+            for at, file in enumerate(self.held[shelf]):
+                for row, digit in enumerate(file):
+                    total += digit * (files[at][row][shelf] + (mark[shelf] if (at, row) == slot else 0))
+            self.heard[shelf].append(total % prime)
+
+    def do_close(self):
+        self.asked, self.heard = None, {}
+
+    def files_now(self):
+        return tuple(tuple(file) for file in self.files)
+
+    def held_now(self):
+        return tuple(None if dealt is None else tuple(tuple(part) for part in dealt) for dealt in self.held)
+
+    def lost_now(self):
+        return tuple(shelf for shelf, dealt in enumerate(self.held) if dealt is None)
+
+    def spoilt_now(self):
+        """The shelves that hold something else than they ought to."""
+        ought = [[[row[shelf] for row in file] for file in self.files] for shelf in range(len(self.held))]
+        return tuple(shelf for shelf, dealt in enumerate(self.held) if dealt is not None and dealt != ought[shelf])
+
+    def answers(self):
+        """Those so far, round by round."""
+        if self.asked is None:
+            return None
+        return tuple(tuple((shelf, self.heard[shelf][turn]) for shelf in sorted(self.heard)) for turn in range(len(self.asked[1])))
+
+
+def drawn_word(chance, words, prime, size):
+    """One of the words, now and then any word, of whatever size and digits."""
+    if chance.random() < 0.93:
+        return chance.choice(words)
+    return tuple(chance.randrange(prime + 1) for _ in range(chance.choice((size, size, size + 1, 1))))
+
+
+def drawn_covers(chance, model, plan):
+    """Covers for each word of a plan, now and then for other files."""
+    prime, size, _ = model.hall[0]
+    hides, told = sorted(model.hides), []
+    for _ in plan:
+        many = [len(file) for file in model.files] or [1]
+        if chance.random() < 0.03:
+            many = many + [1]
+        told.append(tuple(tuple(drawn_word(chance, hides, prime, size) for _ in range(rows)) for rows in many))
+    return tuple(told)
+
+
+def drawn_event(chance, model):
+    """An event by form by chance, most of which can be."""
+    prime, size, _ = model.hall[0]
+    keeps = sorted(model.words)
+    kinds = ("put", "drop", "write", "lose", "mend", "spoil", "ask", "ask", "put") if model.asked is None else ("answer",) * 8 + ("close", "lose")
+    word = chance.choice(kinds) if chance.random() < 0.95 else chance.choice(sorted(EVENT_PARTS))
+    shelf = chance.randrange(size) if chance.random() < 0.95 else chance.choice((size, size + 1, 10 ** 59))
+    file = chance.randrange(len(model.files)) if model.files and chance.random() < 0.95 else chance.randrange(5)
+    row = chance.randrange(len(model.files[file])) if file < len(model.files) and chance.random() < 0.95 else chance.randrange(4)
+    if word == "mend" and model.lost_now() and chance.random() < 0.8:
+        shelf = chance.choice(model.lost_now())
+    if word == "put":
+        return (word, tuple(drawn_word(chance, keeps, prime, size) for _ in range(chance.choice((1, 1, 2, 2, 3, 3, 3, 4)))))
+    if word == "write":
+        return (word, (file, row), drawn_word(chance, keeps, prime, size))
+    if word == "spoil":
+        return (word, shelf, (file, row), chance.randrange(prime) if chance.random() < 0.95 else prime)
+    if word == "ask":
+        plan = tuple(drawn_word(chance, all_words(prime, size), prime, size) for _ in range(chance.choice((1, 1, 2, 2, 3, 3, 9 if chance.random() < 0.1 else 8))))
+        return (word, (file, row), plan, drawn_covers(chance, model, plan))
+    if word == "close":
+        return (word,)
+    return (word, file if word == "drop" else shelf)
+
+
+def live_halls(seed):
+    """Halls of few words, over all six primes, and that of the examples, with a source of chances."""
+    chance = chance_of(seed)
+    yield HALL, chance
+    for hall, _ in small_halls(seed):
+        if hall[0][0] ** hall[0][1] <= 3000 and hall[0][0] ** len(hall[1][2]) <= 400:
+            yield hall, chance
+
+
+NO_EVENTS = (
+    *ODD, 5, (), "put", "close", ["close"], ("close", ()), ("close", 0), ("shut",), ("undo",), (("close",),), ("put",), ("put", ()), ("put", ((),)), ("put", (1, 2)),
+    ("put", [(1, 1)]), ("put", ([1, 1],)), ("put", ((1, -1),)), ("put", ((1, True),)), ("put", ((1, 1),), 0), ("drop",), ("drop", -1), ("drop", True), ("drop", None),
+    ("drop", (0,)), ("drop", "0"), ("lose", False), ("lose", 0, 0), ("mend", None), ("answer", [0]), ("answer",), ("write", (0, 0)), ("write", (0,), (1,)),
+    ("write", [0, 0], (1,)), ("write", (0, 0, 0), (1,)), ("write", (0, 0), ()), ("write", (0, 0), 1), ("write", (0, True), (1,)), ("write", (0, 0), [1]),
+    ("write", (0, -1), (1,)), ("spoil", 0, (0, 0)), ("spoil", 0, 0, 0), ("spoil", (0, 0), 0, 0), ("spoil", True, (0, 0), 0), ("spoil", 0, (0, 0), -1),
+    ("spoil", 0, (0, 0), (0,)), ("spoil", 0, (0, 0), 0, 0), ("ask", (0, 0), ((1,),)), ("ask", (0, 0), (), ()), ("ask", (0, 0), ((),), ((((1,),),),)),
+    ("ask", (0, 0), ((1,),), ()), ("ask", (0, 0), ((1,),), ((),)), ("ask", (0, 0), ((1,),), (((),),)), ("ask", (0, 0), ((1,),), ((((),),),)),
+    ("ask", (0, 0), ((1,),), ((((1,),),), (((1,),),))), ("ask", (0, 0), ((1,), (1,)), ((((1,),),),)), ("ask", 0, ((1,),), ((((1,),),),)),
+    ("ask", (0, 0), ((1,),), [(((1,),),)]), ("ask", (0, 0), ((True,),), ((((1,),),),)), ("ask", (0, 0), ((1,),), ((((None,),),),)),
+    ("ask", (0, 0), ((1,),), (((1,),),)), (True, 0), (None,), (0, 0), ("Put", ((1,),)), ("put ", ((1,),)), (["put"], ((1,),)), (("drop", 0),),
+)
